@@ -1,0 +1,1 @@
+"""Openranges: what every program may answer at each call."""
