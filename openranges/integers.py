@@ -2,8 +2,8 @@
 
 LAST_PLACE = 10 ** 30
 
-_BLOCK_DIGITS = 500
-_BLOCK = 10 ** 500
+_BLOCK_DIGITS = 60
+_BLOCK = 10 ** 60
 
 
 def is_integer(value):

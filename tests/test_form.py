@@ -1,4 +1,4 @@
-"""The form of the code that LANGUAGE.md asks for, as far as it is quickly seen: L1, L10, L14."""
+"""The form of the code that LANGUAGE.md asks for, as far as it is quickly seen: L1, L10, L14, L27."""
 
 import ast
 import pathlib
@@ -28,6 +28,15 @@ class Form(unittest.TestCase):
             for node in ast.walk(ast.parse(path.read_text(encoding="utf-8"))):
                 if isinstance(node, ast.FunctionDef):
                     self.assertLessEqual(node.end_lineno - node.lineno + 1, 40, f"{path.name}: {node.name}")
+
+    def test_powers_have_a_written_exponent_from_0_to_64(self):
+        for path in self.files:
+            for node in ast.walk(ast.parse(path.read_text(encoding="utf-8"))):
+                if isinstance(node, (ast.BinOp, ast.AugAssign)) and isinstance(node.op, ast.Pow):
+                    exponent = node.right if isinstance(node, ast.BinOp) else node.value
+                    number = exponent.value if isinstance(exponent, ast.Constant) else None
+                    written = type(number) is int and 0 <= number <= 64
+                    self.assertTrue(written, f"{path.name} row {node.lineno}")
 
 
 if __name__ == "__main__":
