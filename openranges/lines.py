@@ -73,10 +73,16 @@ def _rising_text(slope):
     return f"{decimal(slope)} x"
 
 
+# What operators run calls no object, so this stands there in the place of line(x).
+def value_at(line, x):
+    """The value of a line at x."""
+    return line.slope * x + line.height
+
+
 def first_above(one, other, start):
     """The least integer x from start on with one(x) > other(x), or None."""
     lead = one - other
-    if lead(start) > 0:
+    if value_at(lead, start) > 0:
         return start
     if lead.slope <= 0:
         return None
@@ -87,7 +93,8 @@ def lowest(lines, first, last):
     """The least values of the lines from first to last, as pieces (first, last, Line)."""
     starts = []
     # No line rises faster than the ones before it: where it gets below them, it stays below.
-    for line in sorted(lines, key=lambda each: (-each.slope, each.height)):
+    for fall, height in sorted([(-line.slope, line.height) for line in lines]):
+        line = Line(-fall, height)
         while starts and _takes_over(line, starts[-1]):
             starts.pop()
         start = first_above(starts[-1][1], line, first) if starts else first
@@ -100,7 +107,7 @@ def lowest(lines, first, last):
 def _takes_over(line, begun):
     """Whether a line of no greater slope takes the whole of a piece that has begun."""
     start, holder = begun
-    return line(start) <= holder(start)
+    return value_at(line, start) <= value_at(holder, start)
 
 
 def highest(lines, first, last):
