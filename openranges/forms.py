@@ -1,0 +1,151 @@
+"""Forms: stretches of x over which one asks calls at x and the grown set looks the same but for x itself."""
+
+from openranges.grown import grown_further, grown_set
+from openranges.walks import begun, met, walked_over
+from openranges.worlds import Node, World, cell_nodes
+
+
+class Basis:
+    """The grown set of the rules alone, cell by cell, with the walks over it from either end."""
+
+    def __init__(self, rules):
+        self.rules = rules
+        self.grown = grown_set(rules, [])
+        self.world = World(rules)
+        self.members = [self.grown.functions_at(first) for first, _ in self.world.cells]
+        many = len(self.world.cells)
+        self.left = Side(self.world, self.members, [index for index in range(many)], False)
+        self.right = Side(self.world, self.members, [many - 1 - index for index in range(many)], True)
+
+
+class Side:
+    """The states of walks over cells in one order, kept for each way in which the cells may be grown."""
+
+    def __init__(self, world, members, order, backward):
+        self._world = world
+        self._order = order
+        self._backward = backward
+        self._states = [(begun(), None)]
+        self._numbers = {}
+        self._plain = [0]
+        for at in range(len(order)):
+            self._plain.append(self._further(self._plain[at], at, members))
+
+    def walk(self, many, members, same):
+        """The state over so many cells and their last node; the first ones, so many, are grown as in the basis."""
+        number = self._plain[min(same, many)]
+        for at in range(min(same, many), many):
+            number = self._further(number, at, members)
+        return self._states[number]
+
+    def _further(self, number, at, members):
+        """The number of the state with one more cell."""
+        cell = self._order[at]
+        key = (number, members[cell])
+        if key not in self._numbers:
+            state, before = self._states[number]
+            nodes = cell_nodes(self._world, cell, members[cell])
+            if self._backward:
+                nodes = nodes[::-1]
+            self._numbers[key] = len(self._states)
+            self._states.append((walked_over(self._world, state, before, nodes), nodes[-1]))
+        return self._numbers[key]
+
+
+class Form:
+    """The x from first to last, with calls (function, d) asked at x + d; x itself is one of them, the middle.
+
+    If it moves, all x lie inside one cell; otherwise there is one x.
+    """
+
+    def __init__(self, basis, first, last, middle, question):
+        self.basis = basis
+        self.first = first
+        self.last = last
+        self.middle = middle
+        self.moves = first < last
+        self._begin = basis.world.cell_at(middle)
+        self._end = basis.world.cell_at(middle + question.width)
+        self._width = question.width
+        asked = [(function, middle + by) for function, by in question.asked]
+        self.grown = grown_further(basis.rules, basis.grown, asked)
+        self._kept = [(function, self.spot_of(place)) for function, place in asked] if question.sums else []
+        self._sides = None
+        self._known = {}
+
+    def spot_of(self, place):
+        """The spot of a place that is given for the middle."""
+        first, last = self.basis.world.cells[self._begin]
+        return ("x", place - self.middle) if self.moves and first < place < last else place
+
+    def label(self, call):
+        """What states call the asked call (function, d), or None for nought."""
+        return None if call is None else self._kept.index((call[0], self.spot_of(self.middle + call[1])))
+
+    def costs_at(self, x):
+        """The state of a walk over all cells, for one x."""
+        if x not in self._known:
+            self._known[x] = self._walk_at(x)
+        return self._known[x]
+
+    def _walk_at(self, x):
+        if self._sides is None:
+            self._sides = self._walk_sides()
+        (state, before), (other, behind) = self._sides
+        world = self.basis.world
+        nodes = self._nodes_at(x)
+        state = walked_over(world, state, before, nodes, self._kept)
+        return state if behind is None else met(world, state, nodes[-1], other, behind, self._kept)
+
+    def _walk_sides(self):
+        """The walks from the left and from the right up to the cells of x."""
+        world = self.basis.world
+        members = list(self.basis.members)
+        many = len(members)
+        low = many
+        high = -1
+        for function in self.basis.rules.functions:
+            for first, last in (self.grown.have[function] - self.basis.grown.have[function]).stretches:
+                for cell in range(world.cell_at(first), world.cell_at(last) + 1):
+                    members[cell] = self.grown.functions_at(world.cells[cell][0])
+                    low = min(low, cell)
+                    high = max(high, cell)
+        left = self.basis.left.walk(self._begin, members, low)
+        return (left, self.basis.right.walk(many - 1 - self._end, members, many - 1 - high))
+
+    def _nodes_at(self, x):
+        """The nodes of the cells of x, from left to right."""
+        places = {}
+        for cell in range(self._begin, self._end + 1):
+            for place in self.basis.world.cells[cell]:
+                places[place] = cell
+        for place in range(self.middle, self.middle + self._width + 1):
+            places[place] = self.basis.world.cell_at(place)
+        nodes = []
+        for place in sorted(list(places)):
+            spot = self.spot_of(place)
+            moved = place if isinstance(spot, int) else place + x - self.middle
+            nodes.append(Node(moved, spot, places[place], self.grown.functions_at(place)))
+        return nodes
+
+
+def forms_of(basis, places, question):
+    """Forms that together have just the x that are given as Places, ascending."""
+    forms = []
+    for first, last in places.stretches:
+        for cell in range(basis.world.cell_at(first), basis.world.cell_at(last) + 1):
+            begin, end = basis.world.cells[cell]
+            for low, high in _cut(max(first, begin), min(last, end), begin, end - question.width):
+                middle = low if low == high else low + 1
+                forms.append(Form(basis, low, high, middle, question))
+    return forms
+
+
+def _cut(first, last, begin, end):
+    """The x from first to last, cut so that those strictly between begin and end are together."""
+    low = max(first, begin + 1)
+    high = min(last, end - 1)
+    if high - low < 2:
+        return [(x, x) for x in range(first, last + 1)]
+    ahead = [(x, x) for x in range(first, low)]
+    return ahead + [(low, high)] + [(x, x) for x in range(high + 1, last + 1)]

@@ -1,0 +1,164 @@
+"""Where claims hold and why: parts that derivations are made of."""
+
+from openranges.forms import forms_of
+from openranges.hops import hops_line
+from openranges.lines import Line, first_above, value_at
+from openranges.pieces import side_by_side
+from openranges.questions import Question, asks_of
+from openranges.reasons import barred_call, rows_for, rows_to_bar
+from openranges.spots import spot_line
+from openranges.walks import hops_of
+
+
+class Part:
+    """A stretch of x over which a claim is shown in one way: by a call of a grown set, or by chains of hops.
+
+    Calls and grown sets are those for one x, the middle; spots tell what they are for the other ones.
+    """
+
+    def __init__(self, first, last, form, way, told):
+        self.first = first
+        self.last = last
+        self._form = form
+        self._way = way
+        self._told = told
+
+    def beside(self, first, last, other):
+        """The part from first to last that shows what this one shows together with another one."""
+        if self._way == "bar" or self._way == "ring":
+            return Part(first, last, self._form, self._way, self._told)
+        if other._way == "ring":
+            return Part(first, last, self._form, "ring", other._told)
+        return Part(first, last, self._form, "sums", self._told + other._told)
+
+    def written(self):
+        """The part as derivations tell it."""
+        rules = self._form.basis.rules
+        grown = self._form.grown
+        if self._way == "bar":
+            index, function, place = self._told
+            rows, end = rows_to_bar(rules, grown, function, place), ("bar", index)
+        elif self._way == "grown":
+            function, place = self._told
+            rows, end = rows_for(rules, grown, [(function, place, place)]), ("grown",)
+        else:
+            calls = [call for hops in self._told for hop in hops for call in _calls(hop, self._form.middle)]
+            rows, end = rows_for(rules, grown, calls), (self._way, *self._told)
+        return (self.first, self.last, tuple([self._spotted(row) for row in rows]), end)
+
+    def _spotted(self, row):
+        function, first, last, reason = row
+        return (function, self._form.spot_of(first), self._form.spot_of(last), reason)
+
+
+class Plain:
+    """The form of what does not depend on x."""
+
+    def __init__(self, basis):
+        self.basis = basis
+        self.grown = basis.grown
+        self.middle = 0
+
+    def spot_of(self, place):
+        return place
+
+
+def shown_parts(basis, claim):
+    """The parts that show where a claim holds, ascending, under any rules."""
+    places = asks_of(claim)
+    wrong = wrong_part(basis)
+    if wrong is not None:
+        return [wrong.beside(first, last, wrong) for first, last in places.stretches]
+    if claim.kind == "answers":
+        return _answered_parts(basis, claim)
+    question = Question(claim)
+    parts = []
+    for form in forms_of(basis, places, question):
+        parts.extend(_parts_of(form, question))
+    return parts
+
+
+def wrong_part(basis):
+    """A part that shows that no program is let, or None."""
+    plain = Plain(basis)
+    bar = barred_call(basis.rules, basis.grown)
+    if bar is not None:
+        return Part(0, 0, plain, "bar", bar)
+    many = len(basis.members)
+    ring = basis.left.walk(many, basis.members, many)[0][1]
+    return None if ring is None else Part(0, 0, plain, "ring", (hops_of(ring),))
+
+
+def _answered_parts(basis, claim):
+    """The parts of an answers-claim: each row of the function shows the places that it has."""
+    plain = Plain(basis)
+    rows = sorted([(first, last, None) for name, first, last, _ in basis.grown.rows if name == claim.function])
+    places = [(first, last, None) for first, last in claim.places.stretches]
+    both = side_by_side(rows, places)
+    return [Part(first, last, plain, "grown", (claim.function, first)) for first, last, _, _ in both]
+
+
+def _parts_of(form, question):
+    """The parts that show the claim for the x of a form."""
+    bar = barred_call(form.basis.rules, form.grown)
+    if bar is not None:
+        return [Part(form.first, form.last, form, "bar", bar)]
+    if question.wanted is not None:
+        function, by = question.wanted
+        if form.middle + by in form.grown.have[function]:
+            return [Part(form.first, form.last, form, "grown", (function, form.middle + by))]
+    if len(question.sums) < 2:
+        return _runs(form, question.sums[0] if question.sums else None)
+    ones, others = [[(part.first, part.last, part) for part in _runs(form, each)] for each in question.sums]
+    return [one.beside(first, last, other) for first, last, one, other in side_by_side(ones, others)]
+
+
+def _runs(form, wanted):
+    """The parts that chains show. What they leave open is one stretch, so parts are found from both ends."""
+    low = form.first
+    high = form.last
+    ahead = []
+    behind = []
+    found = _shown_at(form, low, wanted)
+    while found is not None and low <= high:
+        way, hops, excess = found
+        stop = first_above(excess, Line(0, 0), low)
+        end = high if stop is None else min(high, stop - 1)
+        ahead.append(Part(low, end, form, way, (hops,)))
+        low = end + 1
+        found = _shown_at(form, low, wanted) if low <= high else None
+    found = _shown_at(form, high, wanted) if low < high else None
+    while found is not None:
+        way, hops, excess = found
+        stop = first_above(excess.mirrored(0), Line(0, 0), -high)
+        begin = low if stop is None else max(low, 1 - stop)
+        behind.append(Part(begin, high, form, way, (hops,)))
+        high = begin - 1
+        found = _shown_at(form, high, wanted)
+    return ahead + behind[::-1]
+
+
+def _shown_at(form, x, wanted):
+    """The way in which chains show at x what is wanted, their hops, and a line that is at most 0 as far as they do."""
+    costs, ring = form.costs_at(x)
+    if ring is not None:
+        hops = hops_of(ring)
+        return ("ring", hops, hops_line(form.basis.rules, hops) + 1)
+    if wanted is None:
+        return None
+    start, goal, line = wanted
+    found = costs.get((form.label(start), form.label(goal)))
+    if found is None or found[0] > value_at(line, x):
+        return None
+    hops = hops_of(found[1])
+    return ("sum", hops, hops_line(form.basis.rules, hops) - line)
+
+
+def _calls(hop, middle):
+    """The calls of a hop with spots for x as the middle: (function, first, last)."""
+    _, start, begin, goal, end = hop
+    one = value_at(spot_line(begin), middle)
+    other = value_at(spot_line(end), middle)
+    if start == goal:
+        return [(start, min(one, other), max(one, other))]
+    return [(function, one, one) for function in (start, goal) if function is not None]
