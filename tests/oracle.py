@@ -175,3 +175,101 @@ def all_let(rules, top):
         if all(kept_at(clause, outcomes, x) for clause in rules.told for x in speaks_of(clause)):
             found.append(outcomes)
     return found
+
+
+def is_number(value):
+    return type(value) is int
+
+
+def parted(value, many):
+    return isinstance(value, (tuple, list)) and len(value) == many
+
+
+def first_wrong(rules, rows, asked):
+    """The index of the first row that is not right by point 14, or -1; 0 for what is no list or tuple."""
+    if not isinstance(rows, (tuple, list)):
+        return 0
+    above = set()
+    for index, row in enumerate(rows):
+        if not right_row(rules, row, asked, above):
+            return index
+        above |= {(row[0], x) for x in range(row[1], row[2] + 1)}
+    return -1
+
+
+def right_row(rules, row, asked, above):
+    if not parted(row, 4) or not isinstance(row[0], str) or row[0] not in rules.functions:
+        return False
+    f, first, last, reason = row
+    if not is_number(first) or not is_number(last) or first > last or last - first > 1000:
+        return False
+    if parted(reason, 1):
+        return reason[0] == "asked" and first == last and (f, first) in asked
+    if not parted(reason, 2) or not is_number(reason[1]) or not 0 <= reason[1] < len(rules.told):
+        return False
+    name, clause = reason[0], rules.told[reason[1]]
+    among = set(members(clause.places))
+    wanted = set(range(first, last + 1))
+    if clause.function != f or not isinstance(name, str):
+        return False
+    if name == "answers":
+        return clause.kind == "answers" and wanted <= among
+    if name == "needs":
+        return clause.kind == "needs" and wanted <= among and all((clause.other, x) in above for x in wanted)
+    if clause.kind != "spreads" or name != clause.way:
+        return False
+    source = first - 1 if name == "up" else last + 1
+    return wanted | {source} <= among and (f, source) in above
+
+
+def cost_of(rules, value, known):
+    """The cost of a hop, or None for any other value; known are all hops of the rules."""
+    if not parted(value, 5) or not all(is_number(value[at]) for at in (0, 2, 4)):
+        return None
+    if not all(value[at] is None or isinstance(value[at], str) for at in (1, 3)):
+        return None
+    return known.get(tuple(value))
+
+
+def chained(rules, value, start, goal, have, known):
+    """Whether any value is a chain from start to goal that lies in a set of calls."""
+    if not isinstance(value, (tuple, list)):
+        return False
+    at = start
+    for hop in value:
+        if cost_of(rules, hop, known) is None or call(hop[1], hop[2]) != at:
+            return False
+        at = call(hop[3], hop[4])
+        if not calls_of(hop) <= have:
+            return False
+    return at == goal
+
+
+def calls_of(hop):
+    """The calls that a hop has."""
+    _, f, p, g, q = hop
+    if f == g:
+        return {(f, x) for x in range(min(p, q), max(p, q) + 1)}
+    return {one for one in (call(f, p), call(g, q)) if one is not None}
+
+
+def at_spot(value, x):
+    """The place of any value that is a spot; any other value stays."""
+    if parted(value, 2) and isinstance(value[0], str) and value[0] == "x" and is_number(value[1]):
+        return x + value[1]
+    return value if is_number(value) else None
+
+
+def at_x(item, many, spots, x):
+    """A row or hop with its spots replaced, if it has as many parts; any other value stays."""
+    if not parted(item, many):
+        return item
+    return tuple([at_spot(part, x) if at in spots else part for at, part in enumerate(item)])
+
+
+def rows_at(rows, x):
+    return [at_x(row, 4, (1, 2), x) for row in rows] if isinstance(rows, (tuple, list)) else rows
+
+
+def hops_at(hops_told, x):
+    return [at_x(hop, 5, (2, 4), x) for hop in hops_told] if isinstance(hops_told, (tuple, list)) else hops_told
