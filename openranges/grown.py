@@ -75,7 +75,9 @@ def _grow(rules, have, rows, unseen):
 def _mark(rules, function, unseen):
     """Adds the clauses that may bring more, now that the function has more."""
     for index, clause in enumerate(rules.told):
-        if clause.kind == "needs" and clause.other == function or clause.kind == "spreads" and clause.function == function:
+        if clause.kind == "needs" and clause.other == function:
+            unseen[index] = True
+        elif clause.kind == "spreads" and clause.function == function:
             unseen[index] = True
 
 

@@ -1,7 +1,7 @@
 """Hops with spots: whether they are hops of the rules for every x of a stretch, and what they cost."""
 
 from openranges.integers import is_integer
-from openranges.lines import Line
+from openranges.lines import Line, value_at
 from openranges.spots import is_sequence, spot_line
 
 _SIGNS_UP = ("<=", "=")
@@ -42,6 +42,26 @@ def hops_line(rules, hops):
     for hop in hops:
         total = total + hop_line(rules, hop)
     return total
+
+
+def shortened(hops, x):
+    """The same chain of hops with spots, with steps that go on in one way by one clause as one hop, told for one x."""
+    kept = []
+    for hop in hops:
+        if kept and _goes_on(kept[-1], hop, x):
+            index, start, begin, goal, _ = kept[-1]
+            kept[-1] = (index, start, begin, goal, hop[4])
+        else:
+            kept.append(hop)
+    return tuple(kept)
+
+
+def _goes_on(hop, behind, x):
+    return hop[0] == behind[0] and hop[1] == hop[3] and _rises(hop, x) == _rises(behind, x)
+
+
+def _rises(hop, x):
+    return value_at(spot_line(hop[2]), x) < value_at(spot_line(hop[4]), x)
 
 
 def read_chain(rules, value, stretch, read):

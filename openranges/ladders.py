@@ -1,8 +1,8 @@
 """Chains and rings of hops: the least costs between calls, and whether calls can be answered."""
 
 from openranges.errors import Impossible
-from openranges.grown import check_call, check_calls, grown_set
-from openranges.hops import hop_line, leads, read_chain, read_hop
+from openranges.grown import check_calls, grown_set
+from openranges.hops import hop_line, leads, read_chain, read_hop, shortened
 from openranges.lines import value_at
 from openranges.reasons import barred_call
 from openranges.spots import Stretch, place_line
@@ -21,7 +21,7 @@ def ring(rules, *, asked=()):
     """A ring of cost below 0 in the grown set of the asked calls, or None."""
     check_calls(rules, asked)
     found = _walk(rules, asked, grown_set(rules, asked), ())[1]
-    return None if found is None else hops_of(found)
+    return None if found is None else shortened(hops_of(found), 0)
 
 
 def can_answer(rules, calls):
@@ -46,7 +46,7 @@ def cheapest(rules, start, goal, *, asked=()):
     if key not in costs:
         return None
     cost, path = costs[key]
-    return (cost, hops_of(path))
+    return (cost, shortened(hops_of(path), 0))
 
 
 def is_chain(rules, hops, start, goal, *, asked=()):

@@ -1,7 +1,7 @@
 """Where claims hold and why: parts that derivations are made of."""
 
 from openranges.forms import forms_of
-from openranges.hops import hops_line
+from openranges.hops import hops_line, shortened
 from openranges.lines import Line, first_above, value_at
 from openranges.pieces import side_by_side
 from openranges.questions import Question, asks_of
@@ -86,7 +86,7 @@ def wrong_part(basis):
         return Part(0, 0, plain, "bar", bar)
     many = len(basis.members)
     ring = basis.left.walk(many, basis.members, many)[0][1]
-    return None if ring is None else Part(0, 0, plain, "ring", (hops_of(ring),))
+    return None if ring is None else Part(0, 0, plain, "ring", (shortened(hops_of(ring), 0),))
 
 
 def _answered_parts(basis, claim):
@@ -142,7 +142,7 @@ def _shown_at(form, x, wanted):
     """The way in which chains show at x what is wanted, their hops, and a line that is at most 0 as far as they do."""
     costs, ring = form.costs_at(x)
     if ring is not None:
-        hops = hops_of(ring)
+        hops = shortened(hops_of(ring), x)
         return ("ring", hops, hops_line(form.basis.rules, hops) + 1)
     if wanted is None:
         return None
@@ -150,7 +150,7 @@ def _shown_at(form, x, wanted):
     found = costs.get((form.label(start), form.label(goal)))
     if found is None or found[0] > value_at(line, x):
         return None
-    hops = hops_of(found[1])
+    hops = shortened(hops_of(found[1]), x)
     return ("sum", hops, hops_line(form.basis.rules, hops) - line)
 
 

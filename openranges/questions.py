@@ -6,7 +6,7 @@ from openranges.lines import Line
 class Question:
     """What is asked for a claim at x, what it wants to be answered, and what chains show it.
 
-    Sums are tuples (start, goal, line): calls or None for nought, and the most that a chain from start to goal may cost.
+    Sums are tuples (start, goal, line): two calls or None for nought, and the most that a chain between them may cost.
     """
 
     def __init__(self, claim):

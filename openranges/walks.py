@@ -59,7 +59,7 @@ def hops_of(path):
             rest.append(part[0])
         elif part is not None:
             hops.append(part)
-    return tuple(hops)
+    return hops
 
 
 def whole_walk(world, members, kept=()):

@@ -1,8 +1,10 @@
-"""The form of the code that LANGUAGE.md asks for, as far as it is quickly seen: L1, L10, L14, L27."""
+"""The form of the code that LANGUAGE.md asks for, as far as it is quickly seen."""
 
 import ast
 import pathlib
 import unittest
+
+from tests.form import Found, defined_in, imports_of, own_names
 
 PACKAGE = pathlib.Path(__file__).resolve().parent.parent / "openranges"
 
@@ -10,33 +12,51 @@ PACKAGE = pathlib.Path(__file__).resolve().parent.parent / "openranges"
 class Form(unittest.TestCase):
     def setUp(self):
         self.files = sorted(path for path in PACKAGE.iterdir() if path.name != "__pycache__")
+        self.texts = {path.stem: path.read_text(encoding="utf-8") for path in self.files}
 
     def test_the_folder_has_plain_files_alone(self):
         for path in self.files:
             self.assertRegex(path.name, r"^[a-z0-9_]+\.py$")
 
     def test_characters_and_sizes(self):
-        for path in self.files:
-            text = path.read_text(encoding="utf-8")
-            self.assertEqual([sign for sign in text if sign != "\n" and not " " <= sign <= "~"], [], path.name)
+        for name, text in self.texts.items():
+            self.assertEqual([sign for sign in text if sign != "\n" and not " " <= sign <= "~"], [], name)
             lines = text.split("\n")
-            self.assertLessEqual(len(lines), 399, path.name)
-            self.assertLessEqual(max(len(line) for line in lines), 120, path.name)
+            self.assertLessEqual(len(lines), 399, name)
+            self.assertLessEqual(max(len(line) for line in lines), 120, name)
 
-    def test_functions_are_short(self):
-        for path in self.files:
-            for node in ast.walk(ast.parse(path.read_text(encoding="utf-8"))):
-                if isinstance(node, ast.FunctionDef):
-                    self.assertLessEqual(node.end_lineno - node.lineno + 1, 40, f"{path.name}: {node.name}")
+    def test_what_is_barred(self):
+        methods, attributes = own_names(self.texts.values())
+        self.assertEqual(methods & attributes, set())
+        for name, text in self.texts.items():
+            self.assertEqual(Found(text, methods, attributes).all(), [], name)
+
+    def test_imports_name_the_file_that_defines_and_go_in_no_circle(self):
+        below = {}
+        for name, text in self.texts.items():
+            below[name] = set()
+            for module, imported in imports_of(text):
+                if module.startswith("openranges."):
+                    source = module.split(".")[1]
+                    below[name].add(source)
+                    self.assertIn(imported, defined_in(self.texts[source]), name)
+        while below:
+            free = [name for name, sources in below.items() if not sources & set(below)]
+            self.assertTrue(free, f"a circle in {sorted(below)}")
+            for name in free:
+                del below[name]
+
+    def test_the_package_itself_binds_nothing(self):
+        self.assertEqual(defined_in(self.texts["__init__"]) | set(imports_of(self.texts["__init__"])), set())
 
     def test_powers_have_a_written_exponent_from_0_to_64(self):
-        for path in self.files:
-            for node in ast.walk(ast.parse(path.read_text(encoding="utf-8"))):
+        for name, text in self.texts.items():
+            for node in ast.walk(ast.parse(text)):
                 if isinstance(node, (ast.BinOp, ast.AugAssign)) and isinstance(node.op, ast.Pow):
                     exponent = node.right if isinstance(node, ast.BinOp) else node.value
                     number = exponent.value if isinstance(exponent, ast.Constant) else None
                     written = type(number) is int and 0 <= number <= 64
-                    self.assertTrue(written, f"{path.name} row {node.lineno}")
+                    self.assertTrue(written, f"{name} row {node.lineno}")
 
 
 if __name__ == "__main__":
