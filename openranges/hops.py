@@ -64,13 +64,13 @@ def _rises(hop, x):
     return value_at(spot_line(hop[2]), x) < value_at(spot_line(hop[4]), x)
 
 
-def read_chain(rules, value, stretch, read):
+def read_chain(rules, value, stretch, reader):
     """The list of the Hops of any value that is a list of them, each from where the one before ends, or None."""
     if not isinstance(value, (tuple, list)):
         return None
     hops = []
     for item in value:
-        hop = read_hop(rules, item, stretch, read)
+        hop = read_hop(rules, item, stretch, reader)
         if hop is None or (hops and not same_call(stretch, hops[-1].goal, hops[-1].end, hop.start, hop.begin)):
             return None
         hops.append(hop)
@@ -92,13 +92,13 @@ def same_call(stretch, function, place, other, beside):
     return function == other and stretch.always_same(place, beside)
 
 
-def read_hop(rules, value, stretch, read):
+def read_hop(rules, value, stretch, reader):
     """The Hop of any value that is a hop of the rules for every x of the stretch, or None."""
     if not is_sequence(value, 5):
         return None
     index, start, _, goal, _ = value
-    begin = read(value[2])
-    end = read(value[4])
+    begin = reader(value[2])
+    end = reader(value[4])
     if begin is None or end is None or not is_integer(index) or not 0 <= index < len(rules.told):
         return None
     hop = Hop(rules.told[index], start, begin, goal, end)

@@ -13,20 +13,20 @@ def is_part(rules, question, part):
     asked = [(function, Line(1, by)) for function, by in question.asked]
     if first_wrong_row(rules, rows, asked, stretch, spot_line) != -1:
         return False
-    read = [read_row(row, spot_line) for row in rows]
+    known = [read_row(row, spot_line) for row in rows]
     if is_sequence(end, 1):
-        return is_string(end[0], "grown") and _is_grown(question, read, stretch)
+        return is_string(end[0], "grown") and _is_grown(question, known, stretch)
     if is_sequence(end, 3):
         wanted = question.sums if len(question.sums) == 2 and is_string(end[0], "sums") else []
-        return bool(wanted) and all([_is_sum(rules, each, hops, read, stretch) for each, hops in zip(wanted, end[1:])])
+        return bool(wanted) and all([_is_sum(rules, each, hops, known, stretch) for each, hops in zip(wanted, end[1:])])
     if not is_sequence(end, 2):
         return False
     if is_string(end[0], "bar"):
-        return _is_bar(rules, end[1], read, stretch)
+        return _is_bar(rules, end[1], known, stretch)
     if is_string(end[0], "ring"):
-        return _is_ring(rules, end[1], read, stretch)
+        return _is_ring(rules, end[1], known, stretch)
     if is_string(end[0], "sum") and len(question.sums) == 1:
-        return _is_sum(rules, question.sums[0], end[1], read, stretch)
+        return _is_sum(rules, question.sums[0], end[1], known, stretch)
     return False
 
 

@@ -99,8 +99,7 @@ class Program:
 
     def _answers_beyond(self, function):
         """The pieces of answers with the answer at x + 1 told at x."""
-        beyond = [(max(first - 1, 0), last - 1, line.moved(-1)) for first, last, line in self._answers(function)]
-        return [piece for piece in beyond if piece[0] <= piece[1]]
+        return [(first - 1, last - 1, line.moved(-1)) for first, last, line in self._answers(function)]
 
     def _times(self, factor):
         told = {}
@@ -125,7 +124,6 @@ def mined(programs, clause):
     _check_shapes(programs)
     if not isinstance(clause, (Bound, Pair, Step)) or clause.sign == "=":
         raise BadKind()
-    programs[0]._check_functions(clause.functions_told())
     heights = []
     for program in programs:
         for first, last, one, other in _compared(program, _with_height(clause, 0), clause.places):

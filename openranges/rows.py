@@ -4,7 +4,7 @@ from openranges.integers import is_integer
 from openranges.spots import is_sequence, is_string
 
 
-def first_wrong_row(rules, rows, asked, stretch, read):
+def first_wrong_row(rules, rows, asked, stretch, reader):
     """The index of the first row that is not right for some x of the stretch, or -1; 0 for no list or tuple.
 
     Spots are read by a function that gives None for what is none; asked are pairs of a function and a Line.
@@ -13,7 +13,7 @@ def first_wrong_row(rules, rows, asked, stretch, read):
         return 0
     above = []
     for index, row in enumerate(rows):
-        known = read_row(row, read)
+        known = read_row(row, reader)
         if known is None or not stretch.never_above(known[1], known[2]):
             return index
         if not _is_right(rules, known, row[3], asked, above, stretch):
@@ -22,12 +22,12 @@ def first_wrong_row(rules, rows, asked, stretch, read):
     return -1
 
 
-def read_row(value, read):
+def read_row(value, reader):
     """The function and the two Lines of any value that has the parts of a row, or None."""
     if not is_sequence(value, 4) or not isinstance(value[0], str):
         return None
-    first = read(value[1])
-    last = read(value[2])
+    first = reader(value[1])
+    last = reader(value[2])
     if first is None or last is None:
         return None
     return (value[0], first, last)

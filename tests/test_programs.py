@@ -60,6 +60,12 @@ class MadeAndRefused(unittest.TestCase):
                 self.refused(BadPieces, ("f", at), 9, {"f": good[:at] + [row] + good[at + 1:]})
                 self.refused(BadPieces, ("f", at), 9, {"g": [], "f": good[:at] + [row, 7, 8]})
 
+    def test_true_and_false_are_no_places(self):
+        for row in ((True, 9, FLAT), (1, True, FLAT), (True, True, None)):
+            self.refused(BadPieces, ("f", 1), 9, {"f": [(0, 0, None), row, (2, 9, None)]})
+        self.refused(BadPieces, ("f", 0), 9, {"f": [(False, 9, FLAT)]})
+        self.refused(BadPieces, ("f", 0), 0, {"f": [(0, False, FLAT)]})
+
     def test_pieces_that_end_too_early(self):
         good = [(0, 3, FLAT), (4, 4, None), (5, 9, RISING)]
         for many in range(3):
