@@ -4,26 +4,19 @@ from openranges.integers import is_integer
 from openranges.lines import Line, value_at
 from openranges.spots import is_sequence, spot_line
 
-_SIGNS_UP = ("<=", "=")
-_SIGNS_DOWN = (">=", "=")
-
 
 class Hop:
-    """A hop that was read: its clause, and its functions (None for nought) with a Line for each place."""
+    """A hop that was read: its functions (None for nought) with a Line for each place, and its calls.
 
-    def __init__(self, clause, start, begin, goal, end):
-        self.clause = clause
+    Calls are tuples (function, low, high) with Lines: all places from low to high.
+    """
+
+    def __init__(self, start, begin, goal, end, calls):
         self.start = start
         self.begin = begin
         self.goal = goal
         self.end = end
-
-    def calls(self):
-        """The calls of the hop: (function, low, high) with Lines."""
-        if self.clause.kind == "step":
-            rising = self.end.slope > self.begin.slope or self.end.height > self.begin.height
-            return [(self.start, self.begin, self.end) if rising else (self.start, self.end, self.begin)]
-        return [(function, self.begin, self.begin) for function in (self.start, self.goal) if function is not None]
+        self.calls = calls
 
 
 def hop_line(rules, hop):
@@ -101,37 +94,39 @@ def read_hop(rules, value, stretch, reader):
     end = reader(value[4])
     if begin is None or end is None or not is_integer(index) or not 0 <= index < len(rules.told):
         return None
-    hop = Hop(rules.told[index], start, begin, goal, end)
-    if hop.clause.kind == "step":
-        return hop if _is_step(hop, stretch) else None
-    if hop.clause.kind == "bound" or hop.clause.kind == "pair":
-        return hop if _is_upright(hop, stretch) else None
-    return None
-
-
-def _is_step(hop, stretch):
-    clause = hop.clause
-    if not _names(hop.start, clause.function) or not _names(hop.goal, clause.function):
-        return False
-    if stretch.never_above(hop.begin + 1, hop.end):
-        return clause.sign in _SIGNS_UP and stretch.swept_within(hop.begin, hop.end, clause.places)
-    if stretch.never_above(hop.end + 1, hop.begin):
-        return clause.sign in _SIGNS_DOWN and stretch.swept_within(hop.end, hop.begin, clause.places)
-    return False
-
-
-def _is_upright(hop, stretch):
-    clause = hop.clause
-    beside = clause.other if clause.kind == "pair" else None
-    if _names(hop.start, beside) and _names(hop.goal, clause.function):
-        allowed = _SIGNS_UP
-    elif _names(hop.start, clause.function) and _names(hop.goal, beside):
-        allowed = _SIGNS_DOWN
+    clause = rules.told[index]
+    if clause.kind == "step":
+        if not _names(start, clause.function) or not _names(goal, clause.function):
+            return None
+        calls = _step_calls(clause, begin, end, stretch)
     else:
-        return False
-    if clause.sign not in allowed or not stretch.always_same(hop.begin, hop.end):
-        return False
-    return stretch.swept_within(hop.begin, hop.end, clause.places)
+        calls = _upright_calls(clause, start, goal, begin)
+        if not stretch.always_same(begin, end):
+            return None
+    if not calls or not all([stretch.swept_within(low, high, clause.places) for _, low, high in calls]):
+        return None
+    return Hop(start, begin, goal, end, calls)
+
+
+def _step_calls(clause, begin, end, stretch):
+    """The calls of a step between these places, or none if the clause has no such step for every x."""
+    if clause.sign != ">=" and stretch.never_above(begin + 1, end):
+        return [(clause.function, begin, end)]
+    if clause.sign != "<=" and stretch.never_above(end + 1, begin):
+        return [(clause.function, end, begin)]
+    return []
+
+
+def _upright_calls(clause, start, goal, place):
+    """The calls of a hop at one place between any values, or none if the clause has no such hop."""
+    if clause.kind != "bound" and clause.kind != "pair":
+        return []
+    beside = clause.other if clause.kind == "pair" else None
+    up = clause.sign != ">=" and _names(start, beside) and _names(goal, clause.function)
+    down = clause.sign != "<=" and _names(start, clause.function) and _names(goal, beside)
+    if not up and not down:
+        return []
+    return [(function, place, place) for function in clause.functions_told()]
 
 
 def _names(value, function):

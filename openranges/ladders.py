@@ -57,7 +57,7 @@ def is_chain(rules, hops, start, goal, *, asked=()):
     if chain is None or not leads(chain, _end_of(start), _end_of(goal), stretch):
         return False
     have = grown_set(rules, asked).have
-    calls = [call for hop in chain for call in hop.calls()]
+    calls = [call for hop in chain for call in hop.calls]
     return all([stretch.swept_within(low, high, have[function]) for function, low, high in calls])
 
 

@@ -115,27 +115,41 @@ def _parts_of(form, question):
 
 def _runs(form, wanted):
     """The parts that chains show. What they leave open is one stretch, so parts are found from both ends."""
-    low = form.first
-    high = form.last
-    ahead = []
-    behind = []
-    found = _shown_at(form, low, wanted)
-    while found is not None and low <= high:
+    ahead = _run_up(form, wanted)
+    low = ahead[-1].last + 1 if ahead else form.first
+    return ahead + _run_down(form, wanted, low)[::-1]
+
+
+def _run_up(form, wanted):
+    """The parts from the first x of a form on, until nothing is shown."""
+    parts = []
+    x = form.first
+    while x <= form.last:
+        found = _shown_at(form, x, wanted)
+        if found is None:
+            break
         way, hops, excess = found
-        stop = first_above(excess, Line(0, 0), low)
-        end = high if stop is None else min(high, stop - 1)
-        ahead.append(Part(low, end, form, way, (hops,)))
-        low = end + 1
-        found = _shown_at(form, low, wanted) if low <= high else None
-    found = _shown_at(form, high, wanted) if low < high else None
-    while found is not None:
+        stop = first_above(excess, Line(0, 0), x)
+        end = form.last if stop is None else min(form.last, stop - 1)
+        parts.append(Part(x, end, form, way, (hops,)))
+        x = end + 1
+    return parts
+
+
+def _run_down(form, wanted, low):
+    """The parts from the last x of a form down to low, until nothing is shown."""
+    parts = []
+    x = form.last
+    while x >= low:
+        found = _shown_at(form, x, wanted)
+        if found is None:
+            break
         way, hops, excess = found
-        stop = first_above(excess.mirrored(0), Line(0, 0), -high)
+        stop = first_above(excess.mirrored(0), Line(0, 0), -x)
         begin = low if stop is None else max(low, 1 - stop)
-        behind.append(Part(begin, high, form, way, (hops,)))
-        high = begin - 1
-        found = _shown_at(form, high, wanted)
-    return ahead + behind[::-1]
+        parts.append(Part(begin, x, form, way, (hops,)))
+        x = begin - 1
+    return parts
 
 
 def _shown_at(form, x, wanted):

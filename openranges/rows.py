@@ -41,7 +41,7 @@ def covers_of(rows, function):
 def lie_in(hops, rows, stretch):
     """Whether all calls of Hops are in the rows, as they are read, for every x."""
     for hop in hops:
-        for function, low, high in hop.calls():
+        for function, low, high in hop.calls:
             if not stretch.covered(low, high, covers_of(rows, function)):
                 return False
     return True

@@ -49,16 +49,13 @@ class Stretch:
         # Each x moves the ends by one place at most, so the places for all x are one stretch.
         first = value_at(low, self.first)
         last = value_at(high, self.last)
-        at = places.rank(first)
-        return first in places and last in places and places.rank(last) - at == last - first
+        return last in places and places.rank(last) - places.rank(first) == last - first
 
     def covered(self, low, high, covers):
         """Whether all from low to high, two spots in order, are in pairs of spots (low, high) for every x."""
         for begin, end in covers:
             if self.never_above(begin, low) and self.never_above(high, end):
                 return True
-        if not covers:
-            return False
         spots = [low, high] + [spot for pair in covers for spot in pair]
         return all([_covered_at(x, low, high, covers) for x in self._turning(spots)])
 

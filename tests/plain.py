@@ -105,7 +105,7 @@ def some_clause(chance, functions, last, kinds=None, beyond=0, most=3):
     function, *others = chance.sample(list(functions), min(2, len(functions)))
     places = some_places(chance, last, beyond)
     sign = chance.choice(SIGNS)
-    slope, height = chance.randint(-2, 2), chance.randint(-most, most)
+    slope, height = chance.choice((chance.randint(-2, 2), chance.randint(-9, 9))), chance.randint(-most, most)
     if kind == "answers":
         return Answers(function, places)
     if kind == "refuses":

@@ -259,6 +259,42 @@ class HopsHold(unittest.TestCase):
         self.assertIs(hops_hold(FAR_RULES, [(4, None, 7, "f", X)], [("f", 0, FAR, 0)], 7, 7), True)
         self.assertIs(hops_hold(FAR_RULES, [(4, None, 7, "f", X)], [("f", 0, FAR, 0)], 7, 8), False)
 
+    def test_steps_from_or_to_a_place_that_stays(self):
+        for p, q, low, high in ((20, X, X, 20), (X, 20, X, 20), (2, X, 2, X), (X, 2, 2, X)):
+            index = 7 if (p, q) in ((20, X), (X, 2)) else 6
+            hop = (index, "g", p, "g", q)
+            self.assertIs(hops_hold(FAR_RULES, [hop], [("g", low, high, 0)], 5, 15), True)
+            self.assertIs(hops_hold(FAR_RULES, [(13 - index, *hop[1:])], [("g", low, high, 0)], 5, 15), False)
+            for rows in ([("g", p, p, 0), ("g", q, q, 0)], [("g", 2, 4, 0), ("g", 15, 20, 0)], [("g", p, p, 0)], [("g", q, q, 0)],
+                         [("f", low, high, 0)], [("g", 6, 20, 0)], [("g", 2, 14, 0)], [("g", X, X, 0)], [("g", high, low, 0)]):
+                self.assertIs(hops_hold(FAR_RULES, [hop], rows, 5, 15), False, (hop, rows))
+
+    def test_a_hole_at_one_x_alone(self):
+        middle = 10 ** 20
+        for offset, wide in ((0, 0), (7, 0), (-7, 1), (10 ** 9, 3)):
+            low, high = ("x", offset), ("x", offset + wide)
+            hop = [(6, "g", low, "g", high)] if wide else [(5, "f", low, "g", low)]
+            for hole in (middle, middle + 1):
+                rows = [("g", 0, middle - 1, 0), ("g", hole + 1, FAR, 0), ("f", 0, FAR, 0)]
+                first, last = hole - offset + 1, middle - offset - wide - 1
+                for begin, end, wanted in ((first, first + middle // 2, True), (middle // 2, last, True),
+                                           (first - 1, first + middle // 2, False), (middle // 2, last + 1, False),
+                                           (middle // 2, 2 * middle, False), (last, first, False), (last, last, True)):
+                    self.assertIs(hops_hold(FAR_RULES, hop, rows, begin, end), wanted, (hop, hole, begin, end))
+
+    def test_rows_that_touch_or_leave_one_place_out(self):
+        rules = Rules(["f", "g"], FAR, [Answers("f", EVERY), Needs("g", EVERY, "f")])
+        middle = 10 ** 20
+        for by, turn in ((0, middle - 1), (3, middle - 4), (-9, middle + 8)):
+            # Ahead of the turn the rows leave a hole, from it on they touch.
+            rows = [("f", 0, ("x", by), ("answers", 0)), ("f", middle, FAR, ("answers", 0)), ("g", 0, FAR, ("needs", 1))]
+            self.assertEqual(rows_hold(rules, rows, [], turn, FAR // 2), -1)
+            self.assertEqual(rows_hold(rules, rows, [], turn - 1, FAR // 2), 2)
+            self.assertEqual(rows_hold(rules, rows, [], turn - 1, turn - 1), 2)
+            rows = [("f", ("x", by), FAR, ("answers", 0)), ("f", 0, middle, ("answers", 0)), ("g", 0, FAR, ("needs", 1))]
+            self.assertEqual(rows_hold(rules, rows, [], 9, turn + 2), -1)
+            self.assertEqual(rows_hold(rules, rows, [], 9, turn + 3), 2)
+
     def test_no_hops_and_any_values(self):
         good = (4, None, X, "f", X)
         rows = [("f", 0, 4, ("answers", 0))]

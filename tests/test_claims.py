@@ -187,6 +187,65 @@ class Examples(unittest.TestCase):
                 above = Places([(x, x) for x in (at - 1, at, at + 1) if line(x) >= 0]) | Places([(0, at - 2)])
                 self.assertTrue(holds(rules, Bound("f", every, ">=", 0, 0)) == above)
 
+    def test_several_lines_from_either_end(self):
+        every = Places([(0, FAR)])
+        at = FAR // 2
+        # Each of the lines is the least one somewhere; the claim holds ahead of some place, or from some place on.
+        for lines, wanted in (([(-10, 300), (-1, 25)], (20, FAR)), ([(-100, 9000), (-10, 990), (-1, 40)], (35, FAR)),
+                              ([(10, 5 - 10 * (at - 9)), (1, 5 - at)], (0, at)), ([(7, 5 - 7 * at), (1, 5 - at - 4)], (0, at + 4))):
+            told = [Answers("f", every)] + [Bound("f", every, "<=", slope, height) for slope, height in lines]
+            rules = Rules(["f"], FAR, told)
+            self.assertEqual(holds(rules, Bound("f", every, "<=", 0, 5)).stretches, (wanted,))
+            turned = Rules(["f"], FAR, [clause.negated() for clause in told])
+            self.assertEqual(holds(turned, Bound("f", every, ">=", 0, -5)).stretches, (wanted,))
+            self.assertTrue(holds(turned, Bound("f", every, "=", 0, -5)) == Places())
+            barred_above = Rules(["f"], FAR, [Bound("f", every, "<=", *line) for line in lines] + [Bound("f", every, ">=", 0, 6)])
+            self.assertEqual(holds(barred_above, Refuses("f", every)).stretches, (wanted,))
+            claim = Refuses("f", every)
+            parts = derivation(barred_above, claim)
+            self.assertIs(is_derivation(barred_above, claim, Places([wanted]), parts), True)
+
+    def test_a_claim_that_fails_between_two_stretches(self):
+        every = Places([(0, FAR)])
+        at = FAR // 3
+        told = [Answers("f", every), Bound("f", every, "<=", 2, 0), Bound("f", every, "<=", -3, 5 * at)]
+        rules = Rules(["f"], FAR, told)
+        claim = Bound("f", every, "<=", 0, 1000)
+        high = -((1000 - 5 * at) // 3)
+        self.assertEqual(holds(rules, claim).stretches, ((0, 500), (high, FAR)))
+        x, program = against(rules, claim)
+        self.assertEqual(x, 501)
+        self.assertGreater(program("f", 501), 1000)
+
+    def test_chains_that_turn_at_the_near_end_of_a_cell(self):
+        every = Places([(0, 20)])
+        told = [Answers("f", every), Step("f", every, ">=", 1), Bound("f", Places([(10, 15)]), "<=", 10, 0)]
+        back = [clause.mirrored(20) for clause in told]
+        self.assertEqual(holds(Rules(["f"], 20, told), Bound("f", every, "<=", 0, 92)).text(), "0-2")
+        self.assertEqual(holds(Rules(["f"], 20, back), Bound("f", every, "<=", 0, 92)).text(), "18-20")
+
+    def test_programs_against_claims_that_nothing_bounds(self):
+        every = Places([(0, 999)])
+        big = 10 ** 40
+        answers = [Answers(f, every) for f in ("f", "g", "h")]
+        cases = [(answers + [Pair("f", every, "<=", "g", 0, -big)], Bound("f", every, "<=", 0, 5)),
+                 (answers + [Pair("f", every, "<=", "g", -big, 0)], Bound("f", Places([(999, 999)]), "<=", 0, 5)),
+                 (answers + [Step("f", every, "<=", -big)], Bound("f", Places([(999, 999)]), "<=", 0, 5)),
+                 (answers + [Step("f", every, ">=", big)], Bound("f", Places([(0, 0)]), "<=", 0, 5)),
+                 (answers + [Pair("f", every, "<=", "g", 0, -big), Pair("g", every, "<=", "h", 0, -big),
+                             Step("h", every, "<=", -big)], Bound("f", Places([(999, 999)]), "<=", 0, big))]
+        ladder = [Bound("g", Places([(k, k)]), "=", 0, 0) for k in range(0, 40, 2)]
+        steps = [Pair("f", Places([(k, k + 1)]), "<=", "h", 0, -big) for k in range(0, 30, 3)]
+        cases.append((answers + ladder + steps + [Step("f", every, "<=", -big), Step("h", every, "<=", -big)],
+                      Bound("f", Places([(999, 999)]), "<=", 0, 5)))
+        for told, claim in cases:
+            for each, wanted in ((told, claim), ([clause.negated() for clause in told], claim.negated())):
+                rules = Rules(["f", "g", "h"], 999, each)
+                x, program = against(rules, wanted)
+                self.assertEqual(x, wanted.places.least())
+                self.assertTrue(program.keeps(each))
+                self.assertIn(x, program.breaches(wanted))
+
     def test_no_places(self):
         rules = Rules(["f", "g"], 9, [Answers("f", Places([(0, 9)]))])
         for claim in (Answers("f", Places()), Step("f", Places([(3, 3)]), "=", 0), Pair("f", Places(), "=", "g", 0, 0)):

@@ -3,7 +3,9 @@
 import unittest
 
 from openranges.claims import against, asks, derivation, holds, is_derivation
-from openranges.ladders import can_answer
+from openranges.errors import Impossible
+from openranges.ladders import can_answer, cheapest
+from openranges.musts import musts
 from openranges.places import Places
 from openranges.rules import Rules
 from tests.large import FUNCTIONS, free_clause, read_off, some_large, some_stretches
@@ -24,7 +26,66 @@ def with_sign(claim, sign):
     return type(claim)(claim.function, claim.places, sign, *[getattr(claim, name) for name in arguments])
 
 
+def kept(rules, claim, x):
+    """Whether every let program keeps a claim at one x, by what the other modules say of this x."""
+    f = claim.function
+    if claim.kind == "answers":
+        return x in musts(rules)[f]
+    if claim.kind == "refuses":
+        return not can_answer(rules, [(f, x)])
+    if claim.kind == "needs":
+        return not can_answer(rules, [(claim.other, x)]) or x in musts(rules, asked=[(claim.other, x)])[f]
+    if claim.kind == "spreads":
+        source, wanted = (x, x + 1) if claim.way == "up" else (x + 1, x)
+        return not can_answer(rules, [(f, source)]) or wanted in musts(rules, asked=[(f, source)])[f]
+    if claim.kind == "step":
+        start, goal, number = (f, x), (f, x + 1), claim.height
+    else:
+        start = (claim.other, x) if claim.kind == "pair" else None
+        goal, number = (f, x), claim.slope * x + claim.height
+    try:
+        ends = [(cheapest(rules, start, goal), number), (cheapest(rules, goal, start), -number)]
+    except Impossible:
+        return True
+    shown = [found is not None and found[0] <= most for found, most in ends]
+    return {"<=": shown[0], ">=": shown[1], "=": all(shown)}[claim.sign]
+
+
+def places_to_try(chance, rules, claim, places):
+    """Some x of which a claim says something: at and beside the ends of where it holds, and of the clauses."""
+    among = asks(rules, claim)
+    stretches = [*places.stretches[:6], *(among - places).stretches[:6]]
+    for clause in rules.told[:5]:
+        stretches.extend(clause.places.stretches)
+    found = {chance.randint(first, last) for first, last in stretches}
+    for first, last in stretches:
+        found |= {first - 1, first, first + 1, last - 1, last, last + 1}
+    found = sorted(x for x in found if x in among)
+    return chance.sample(found, min(len(found), 15))
+
+
 class Large(unittest.TestCase):
+    def test_each_kind_at_single_places(self):
+        found = {}
+        chance = chance_of(98)
+        for _ in range(150):
+            functions = FUNCTIONS[:chance.randint(1, 3)]
+            last = chance.choice((FAR, 60, 10 ** 6))
+            program, rules = some_large(chance, chance.choice((3, 6, 12)), functions, last)
+            if chance.random() < 0.3:
+                rules = Rules(functions, last, [*rules.told, free_clause(chance, rules)])
+            for _ in range(3):
+                claim = free_clause(chance, rules)
+                if chance.random() < 0.5:
+                    claim = read_off(chance, program, some_stretches(chance, [0, last, last // 3, last // 2])) or claim
+                places = holds(rules, claim)
+                for x in places_to_try(chance, rules, claim, places) if can_answer(rules, []) else []:
+                    wanted = kept(rules, claim, x)
+                    self.assertEqual(x in places, wanted, (rules.told, claim.text(), x))
+                    found[(claim.kind, wanted)] = found.get((claim.kind, wanted), 0) + 1
+        self.assertEqual(len(found), 14)
+        self.assertGreater(min(found.values()), 30)
+
     def test_clauses_of_the_rules_hold_as_claims(self):
         for chance, _, rules in cases(91, 60):
             for clause in chance.sample(rules.told, min(5, len(rules.told))):

@@ -205,6 +205,32 @@ class Derivations(unittest.TestCase):
             for end in ((value, part[3][1]), ("sum", value), ("sum", (value,)), (value,), ("bar", value), ("ring", value)):
                 self.assertIs(is_derivation(rules, claim, places, [(0, 4, rows, end)]), False)
 
+    def test_ends_of_other_kinds(self):
+        every = Places([(0, 9)])
+        told = [Answers("f", every), Bound("f", every, "=", 1, 0), Needs("g", Places([(0, 5)]), "f"), Answers("g", Places([(7, 9)]))]
+        rules = Rules(["f", "g"], 9, told)
+        rows = [("f", 0, 9, ("answers", 0))]
+        up, down = [(1, None, X, "f", X)], [(1, "f", X, None, X)]
+        wanted = {("sum", "<="): up, ("sum", ">="): down, ("sums", "="): None}
+        for sign in ("<=", ">=", "="):
+            claim = Bound("f", every, sign, 1, 0)
+            for end in (("sum", up), ("sum", down), ("sums", up, down), ("sums", down, up), ("sums", up, up), ("sums", up)):
+                right = end == ("sums", up, down) if sign == "=" else end == ("sum", wanted[("sum", sign)])
+                self.assertIs(is_derivation(rules, claim, every, [(0, 9, rows, end)]), right, (sign, end))
+        needs = [("f", 0, 9, ("answers", 0)), ("g", 0, 5, ("needs", 2))]
+        for claim, right in ((Answers("g", Places([(0, 5)])), True), (Needs("g", Places([(0, 5)]), "f"), True)):
+            asked = needs if claim.kind == "answers" else [("f", X, X, ("asked",)), ("g", X, X, ("needs", 2))]
+            places = Places([(0, 5)])
+            self.assertIs(is_derivation(rules, claim, places, [(0, 5, asked, ("grown",))]), right)
+            self.assertIs(is_derivation(rules, claim, places, [(0, 5, asked[:1], ("grown",))]), False)
+            self.assertIs(is_derivation(rules, claim, places, [(0, 5, asked[::-1], ("grown",))]), False)
+            self.assertIs(is_derivation(rules, claim, places, [(0, 5, asked + needs[:1], ("grown",))]), False)
+        bar = Rules(["f", "g"], 9, [Answers("f", every), Answers("g", every), Refuses("f", Places([(4, 4)]))])
+        both = [("f", 4, 4, ("answers", 0)), ("g", 4, 4, ("answers", 1))]
+        for rows, right in ((both[::-1], True), (both[:1], True), (both, False), ([], False)):
+            self.assertIs(is_derivation(bar, Refuses("g", every), every, [(0, 9, rows, ("bar", 2))]), right)
+        self.assertIs(is_derivation(bar, Refuses("g", every), every, [(0, 9, [("f", 4, 5, ("answers", 0))], ("bar", 2))]), False)
+
     def test_far_parts(self):
         every = Places([(0, FAR)])
         told = [Spreads("f", every, "up"), Step("f", every, "<=", -1), Bound("f", Places([(FAR, FAR)]), ">=", 0, 0)]
