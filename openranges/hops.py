@@ -131,6 +131,6 @@ def _upright_calls(clause, start, goal, place):
 
 def _names(value, function):
     """Whether any value is this function, or None for nought."""
-    if function is None or value is None:
-        return function is None and value is None
+    if function is None:
+        return value is None
     return isinstance(value, str) and value == function

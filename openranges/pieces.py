@@ -1,6 +1,7 @@
 """Rows of pieces (first, last, what holds there): their one form, and where two rows lie side by side."""
 
 from openranges.lines import Line, first_above, value_at
+from openranges.overlaps import overlaps
 
 
 def one_form(pieces):
@@ -41,19 +42,8 @@ def _plain(first, last, line):
 
 def side_by_side(ones, others):
     """For rows of pieces in ascending order: (first, last, one, other) wherever both have a piece."""
-    rows = []
-    at = 0
-    beside = 0
-    while at < len(ones) and beside < len(others):
-        first = max(ones[at][0], others[beside][0])
-        last = min(ones[at][1], others[beside][1])
-        if first <= last:
-            rows.append((first, last, ones[at][2], others[beside][2]))
-        if ones[at][1] < others[beside][1]:
-            at += 1
-        else:
-            beside += 1
-    return rows
+    found = overlaps(ones, others)
+    return [(first, last, ones[at][2], others[beside][2]) for first, last, at, beside in found]
 
 
 def where_above(line, first, last):

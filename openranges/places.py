@@ -2,6 +2,7 @@
 
 from openranges.errors import BadStretch, BadText, NoPlace
 from openranges.integers import LAST_PLACE, is_integer, is_place
+from openranges.overlaps import overlaps
 
 _MOST_DIGITS = 31
 
@@ -159,19 +160,7 @@ def _how_many_upto(numbers, x):
 
 def _common(ones, others):
     """The stretches that two rows of stretches of the one form have in common."""
-    rows = []
-    one = 0
-    other = 0
-    while one < len(ones) and other < len(others):
-        first = max(ones[one][0], others[other][0])
-        last = min(ones[one][1], others[other][1])
-        if first <= last:
-            rows.append((first, last))
-        if ones[one][1] < others[other][1]:
-            one += 1
-        else:
-            other += 1
-    return rows
+    return [(first, last) for first, last, _, _ in overlaps(ones, others)]
 
 
 def _gaps(stretches):

@@ -165,6 +165,28 @@ class Plainly(unittest.TestCase):
         self.assertEqual(cheapest(RULES, None, None), (0, ()))
 
 
+class OverAllPrograms(unittest.TestCase):
+    def test_answers_and_differences_of_all_let_programs(self):
+        chance = chance_of(56)
+        for functions, last, top, many in ((["f"], 3, 2, 120), (["f", "g"], 1, 2, 60), (["f", "g"], 2, 1, 30)):
+            for _ in range(many):
+                rules = oracle.bounded_rules(chance, functions, last, chance.randint(0, 6), top)
+                let = oracle.all_let(rules, top)
+                for _ in range(4):
+                    start, goal = ends(chance, rules), ends(chance, rules)
+                    calls = [one for one in (start, goal) if one is not None]
+                    both = [outcomes for outcomes in let if all(outcomes[f][x] is not None for f, x in calls)]
+                    self.assertIs(can_answer(rules, calls), bool(both))
+                    if not both:
+                        self.assertRaises(Impossible, cheapest, rules, start, goal)
+                        continue
+                    rises = [self.value(outcomes, goal) - self.value(outcomes, start) for outcomes in both]
+                    self.assertEqual(cheapest(rules, start, goal)[0], max(rises))
+
+    def value(self, outcomes, call):
+        return 0 if call is None else outcomes[call[0]][call[1]]
+
+
 class Large(unittest.TestCase):
     def test_rings_in_large_worlds(self):
         chance = chance_of(54)
