@@ -229,6 +229,8 @@ class Derivations(unittest.TestCase):
         both = [("f", 4, 4, ("answers", 0)), ("g", 4, 4, ("answers", 1))]
         for rows, right in ((both[::-1], True), (both[:1], True), (both, False), ([], False)):
             self.assertIs(is_derivation(bar, Refuses("g", every), every, [(0, 9, rows, ("bar", 2))]), right)
+            for index in (-1, 0, 3, True, None):
+                self.assertIs(is_derivation(bar, Refuses("g", every), every, [(0, 9, rows, ("bar", index))]), False)
         self.assertIs(is_derivation(bar, Refuses("g", every), every, [(0, 9, [("f", 4, 5, ("answers", 0))], ("bar", 2))]), False)
 
     def test_far_parts(self):

@@ -12,6 +12,7 @@ from tests import oracle
 from tests.changes import as_lists, changed
 from tests.large import free_clause, some_large
 from tests.plain import chance_of, program_of
+from tests.refusing import Refusing
 from tests.test_musts import RULES, cases
 from tests.values import BIG, FAR, any_values
 
@@ -57,7 +58,7 @@ class HopCost(unittest.TestCase):
             self.assertIsNone(hop_cost(HOPPING, hop), hop)
         ones = Rules(["f"], 1, [Bound("f", Places([(0, 1)]), "<=", 2, 5), Step("f", Places([(0, 1)]), "=", 1)])
         self.assertEqual(hop_cost(ones, (0, None, 1, "f", 1)), 7)
-        for hop in ((0, None, True, "f", 1), (0, None, 1, "f", True), (True, "f", 0, "f", 1), (1, "f", False, "f", True)):
+        for hop in ((-1, "f", 0, "f", 1), (-2, None, 1, "f", 1), (2, "f", 0, "f", 1), (0, None, True, "f", 1), (0, None, 1, "f", True), (True, "f", 0, "f", 1), (1, "f", False, "f", True)):
             self.assertIsNone(hop_cost(ones, hop))
 
     def test_any_values(self):
@@ -235,13 +236,7 @@ class Large(unittest.TestCase):
         self.assertIsNone(cheapest(rules, ("f", FAR), None))
 
 
-class Errors(unittest.TestCase):
-    def refused(self, error, value, action):
-        with self.assertRaises(error) as caught:
-            action()
-        self.assertIs(type(caught.exception), error)
-        self.assertIs(next(iter(vars(caught.exception).values())), value)
-
+class Errors(Refusing):
     def test_wrong_calls_in_order(self):
         impossible = Rules(["f"], 9, [Answers("f", Places([(0, 9)])), Refuses("f", Places([(3, 3)]))])
         good = ("f", 3)

@@ -11,6 +11,7 @@ from tests import oracle
 from tests.changes import as_lists, changed
 from tests.large import some_large
 from tests.plain import chance_of, members
+from tests.refusing import Refusing
 from tests.values import FAR, any_values
 
 EVERY = Places([(0, 9)])
@@ -169,17 +170,20 @@ class Grounds(unittest.TestCase):
                 row = ("f", 3, 3, reason)
                 self.assertEqual(is_grounds(RULES, ("f", 3), [row]), oracle.first_wrong(RULES, [row], []))
 
+    def test_indexes_of_no_clause(self):
+        for told, reason in ((Answers("f", EVERY), "answers"), (Needs("f", EVERY, "g"), "needs"), (Spreads("f", EVERY, "up"), "up")):
+            rules = Rules(["f", "g"], 9, [Answers("g", EVERY), told])
+            rows = [("g", 0, 9, ("answers", 0)), ("f", 3, 3, ("asked",)), ("f", 4, 4, (reason, 1))]
+            self.assertEqual(is_grounds(rules, ("f", 4), rows, asked=[("f", 3)]), -1)
+            for index in (-1, -2, 0, 2, 60, 10 ** 30, True, 1.0, None, "1", (1,)):
+                wrong = rows[:2] + [("f", 4, 4, (reason, index))]
+                self.assertEqual(is_grounds(rules, ("f", 4), wrong, asked=[("f", 3)]), 2)
+
     def test_spots_are_no_places_here(self):
         self.assertEqual(is_grounds(RULES, ("f", 3), [("f", ("x", 0), 4, ("answers", 0))]), 0)
 
 
-class Errors(unittest.TestCase):
-    def refused(self, error, value, action):
-        with self.assertRaises(error) as caught:
-            action()
-        self.assertIs(type(caught.exception), error)
-        self.assertIs(next(iter(vars(caught.exception).values())), value)
-
+class Errors(Refusing):
     def test_wrong_calls(self):
         wrong = [(NoFunction, word, (word, x)) for word in ("h", "", "F", None, 0, True) for x in (0, 99, None)]
         wrong += [(NoPlace, x, ("f", x)) for x in (10, -1, FAR, FAR + 1, None, True, "3")]
