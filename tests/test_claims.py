@@ -192,13 +192,16 @@ class Examples(unittest.TestCase):
         at = FAR // 2
         # Each of the lines is the least one somewhere; the claim holds ahead of some place, or from some place on.
         for lines, wanted in (([(-10, 300), (-1, 25)], (20, FAR)), ([(-100, 9000), (-10, 990), (-1, 40)], (35, FAR)),
-                              ([(10, 5 - 10 * (at - 9)), (1, 5 - at)], (0, at)), ([(7, 5 - 7 * at), (1, 5 - at - 4)], (0, at + 4))):
+                              ([(10, 5 - 10 * (at - 9)), (1, 5 - at)], (0, at)), ([(7, 5 - 7 * at), (1, 5 - at - 4)], (0, at + 4)),
+                              ([(1, 5 - at), (-1, 5 + at)], (0, FAR)), ([(3, 5 - 3 * at), (-9, 5 + 9 * at)], (0, FAR))):
             told = [Answers("f", every)] + [Bound("f", every, "<=", slope, height) for slope, height in lines]
             rules = Rules(["f"], FAR, told)
             self.assertEqual(holds(rules, Bound("f", every, "<=", 0, 5)).stretches, (wanted,))
             turned = Rules(["f"], FAR, [clause.negated() for clause in told])
             self.assertEqual(holds(turned, Bound("f", every, ">=", 0, -5)).stretches, (wanted,))
             self.assertTrue(holds(turned, Bound("f", every, "=", 0, -5)) == Places())
+            for each, claim in ((rules, Bound("f", every, "<=", 0, 5)), (turned, Bound("f", every, ">=", 0, -5))):
+                self.assertIs(is_derivation(each, claim, Places([wanted]), derivation(each, claim)), True)
             barred_above = Rules(["f"], FAR, [Bound("f", every, "<=", *line) for line in lines] + [Bound("f", every, ">=", 0, 6)])
             self.assertEqual(holds(barred_above, Refuses("f", every)).stretches, (wanted,))
             claim = Refuses("f", every)
@@ -234,6 +237,9 @@ class Examples(unittest.TestCase):
                  (answers + [Step("f", every, ">=", big)], Bound("f", Places([(0, 0)]), "<=", 0, 5)),
                  (answers + [Pair("f", every, "<=", "g", 0, -big), Pair("g", every, "<=", "h", 0, -big),
                              Step("h", every, "<=", -big)], Bound("f", Places([(999, 999)]), "<=", 0, big))]
+        for slope, height in ((0, -big), (-big, 0)):
+            cases.append((answers + [Bound("f", every, "<=", slope, height)], Pair("f", Places([(999, 999)]), "<=", "g", 0, 5)))
+            cases.append((answers + [Bound("g", every, ">=", -slope, -height)], Pair("f", Places([(999, 999)]), "<=", "g", 0, 5)))
         ladder = [Bound("g", Places([(k, k)]), "=", 0, 0) for k in range(0, 40, 2)]
         steps = [Pair("f", Places([(k, k + 1)]), "<=", "h", 0, -big) for k in range(0, 30, 3)]
         cases.append((answers + ladder + steps + [Step("f", every, "<=", -big), Step("h", every, "<=", -big)],
