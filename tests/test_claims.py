@@ -208,6 +208,19 @@ class Examples(unittest.TestCase):
             parts = derivation(barred_above, claim)
             self.assertIs(is_derivation(barred_above, claim, Places([wanted]), parts), True)
 
+    def test_one_sign_by_a_sum_and_the_other_one_by_a_ring(self):
+        every = Places([(0, FAR)])
+        at = FAR // 5
+        for told, wanted in (([Bound("f", every, "<=", 0, 5), Bound("f", every, ">=", 1, 5 - at)], (at, FAR)),
+                             ([Bound("f", every, ">=", 0, 5), Bound("f", every, "<=", -1, 5 + at)], (at, FAR)),
+                             ([Bound("f", every, "<=", 0, 5), Bound("f", every, ">=", -1, 5 + at)], (0, at))):
+            rules = Rules(["f"], FAR, told)
+            claim = Bound("f", every, "=", 0, 5)
+            self.assertEqual(holds(rules, claim).stretches, (wanted,))
+            parts = derivation(rules, claim)
+            self.assertIs(is_derivation(rules, claim, Places([wanted]), parts), True)
+            self.assertEqual({part[3][0] for part in parts}, {"ring", "sums"})
+
     def test_a_claim_that_fails_between_two_stretches(self):
         every = Places([(0, FAR)])
         at = FAR // 3

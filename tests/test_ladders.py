@@ -226,6 +226,15 @@ class Large(unittest.TestCase):
                         self.assertEqual(sum(hop_cost(rules, hop) for hop in found[1]), found[0])
                         self.assertTrue(is_chain(rules, found[1], start, goal, asked=calls))
 
+    def test_all_answers_of_a_let_program_can_be_answered_together(self):
+        chance = chance_of(57)
+        for _ in range(60):
+            program, rules = some_large(chance, chance.choice((5, 15, 40)), last=chance.choice((9, 20)))
+            calls = [(f, x) for f in rules.functions for x in range(rules.last + 1) if program(f, x) is not None]
+            self.assertTrue(program.keeps(rules.told))
+            self.assertTrue(can_answer(rules, calls))
+            self.assertIsNone(ring(rules, asked=calls))
+
     def test_costs_over_far_places(self):
         every = Places([(0, FAR)])
         told = [Answers("f", every), Step("f", every, "<=", 3), Bound("f", Places([(7, 7)]), "<=", 0, 5)]
