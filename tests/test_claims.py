@@ -6,8 +6,9 @@ from openranges.chains import rows_hold
 from openranges.claims import against, asks, derivation, holds, impossible, is_derivation
 from openranges.clauses import Answers, Bound, Needs, Pair, Refuses, Spreads, Step
 from openranges.errors import NoFunction, NoPlace
-from openranges.ladders import can_answer
+from openranges.ladders import can_answer, ring
 from openranges.lines import Line
+from openranges.musts import grounds
 from openranges.places import Places
 from openranges.rules import Rules
 from tests import oracle
@@ -161,6 +162,21 @@ class Impossible(unittest.TestCase):
         self.assertEqual(rows_hold(rules, rows, [], 0, 0), -1)
         loose = Rules(["f"], FAR, [*rules.told[:4], Bound("f", Places([(FAR, FAR)]), ">=", 0, 10 - FAR)])
         self.assertIsNone(impossible(loose))
+
+
+class Equal(unittest.TestCase):
+    def test_equal_calls_on_equal_objects_return_equal_results(self):
+        for chance, rules in small_worlds(78, 150):
+            again = Rules(list(rules.functions), rules.last, [clause.moved(0) for clause in rules.told])
+            before = [clause.text() for clause in rules.told]
+            claim = some_clause(chance, rules.functions, rules.last)
+            calls = [(chance.choice(rules.functions), chance.randint(0, rules.last)) for _ in range(2)]
+            for action in (impossible, lambda told: derivation(told, claim), lambda told: against(told, claim),
+                           lambda told: ring(told, asked=calls), lambda told: grounds(told, calls[0], asked=calls[1:]),
+                           lambda told: holds(told, claim)):
+                first = action(rules)
+                self.assertTrue(first == action(again) and first == action(rules))
+            self.assertEqual([clause.text() for clause in rules.told], before)
 
 
 class Examples(unittest.TestCase):

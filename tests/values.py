@@ -1,7 +1,10 @@
 """Values of every kind that a caller may pass as "any value"."""
 
+from openranges.clauses import Answers, Step
 from openranges.lines import Line
 from openranges.places import Places
+from openranges.programs import Program
+from openranges.rules import Rules
 
 FAR = 10 ** 30
 BIG = 10 ** 80 - 1
@@ -17,7 +20,8 @@ def any_values():
         "", "f", "0", "0-3", "none", "with blanks and {braces}", "\u00e9",
         (), (0,), (0, 1), (True, 2), ((0, 1), (3, 4)), [], [0], [0, 1], [[0, 1]], deep,
         {}, {"f": [(0, 1, None)]}, {0: {1: 2}},
-        Places([(0, 3)]), Places(), Line(1, 2), [Places([(0, 3)]), Line(0, 0)],
+        Places([(0, 3)]), Places(), Line(1, 2), [Places([(0, 3)]), Line(0, 0)], Program(3, {"f": [(0, 3, Line(1, 0))]}),
+        (Step("k", Places([(0, 3)]), "<=", 1),), Rules(["f"], 3, [Answers("f", Places([(0, 3)]))]),
     ]
 
 
