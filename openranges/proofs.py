@@ -137,7 +137,7 @@ def _run_up(form, wanted):
 
 
 def _run_down(form, wanted, low):
-    """The parts from the last x of a form down to low, until nothing is shown."""
+    """The parts from the last x of a form down to low, where nothing is shown any more."""
     parts = []
     x = form.last
     while x >= low:
@@ -145,8 +145,8 @@ def _run_down(form, wanted, low):
         if found is None:
             break
         way, hops, excess = found
-        stop = first_above(excess.mirrored(0), Line(0, 0), -x)
-        begin = low if stop is None else max(low, 1 - stop)
+        # Nothing is shown at low itself, so what is shown at x ends before.
+        begin = 1 - first_above(excess.mirrored(0), Line(0, 0), -x)
         parts.append(Part(begin, x, form, way, (hops,)))
         x = begin - 1
     return parts

@@ -170,6 +170,20 @@ class Grounds(unittest.TestCase):
                 row = ("f", 3, 3, reason)
                 self.assertEqual(is_grounds(RULES, ("f", 3), [row]), oracle.first_wrong(RULES, [row], []))
 
+    def test_clauses_of_another_function_kind_and_way(self):
+        told = [Answers("f", EVERY), Spreads("f", EVERY, "up"), Spreads("f", EVERY, "down"), Needs("f", EVERY, "h"), Refuses("f", EVERY)]
+        told += [Bound("f", EVERY, "=", 0, 0), Step("f", EVERY, "=", 0), Pair("f", EVERY, "=", "h", 0, 0)]
+        rules = Rules(["f", "g", "h"], 9, told)
+        asked = [("f", 3), ("g", 3), ("f", 5), ("g", 5), ("h", 4)]
+        above = [(f, x, x, ("asked",)) for f, x in asked]
+        right = {"answers": 0, "up": 1, "down": 2, "needs": 3}
+        for name in (*right, "refuses", "spreads", "bound", "pair", "step", "asked", "f", ""):
+            for index in range(len(told)):
+                for f in ("f", "g", "h"):
+                    wanted = -1 if f == "f" and right.get(name) == index else 5
+                    rows = above + [(f, 4, 4, (name, index))]
+                    self.assertEqual(is_grounds(rules, (f, 4), rows, asked=asked), wanted, (name, index, f))
+
     def test_indexes_of_no_clause(self):
         for told, reason in ((Answers("f", EVERY), "answers"), (Needs("f", EVERY, "g"), "needs"), (Spreads("f", EVERY, "up"), "up")):
             rules = Rules(["f", "g"], 9, [Answers("g", EVERY), told])
