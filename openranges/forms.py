@@ -53,9 +53,10 @@ class Side:
 
 
 class Form:
-    """The x from first to last, with calls (function, d) asked at x + d; x itself is one of them, the middle.
+    """The x from first to last, with calls (function, d) asked at x + d.
 
-    If it moves, all x lie inside one cell; otherwise there is one x.
+    The grown set is that for one of these x, the middle; the spots of its places tell what it is for the others.
+    If the form moves, all x lie inside one cell; otherwise there is one x.
     """
 
     def __init__(self, basis, first, last, middle, question):
@@ -136,6 +137,7 @@ def forms_of(basis, places, question):
         for cell in range(basis.world.cell_at(first), basis.world.cell_at(last) + 1):
             begin, end = basis.world.cells[cell]
             for low, high in _cut(max(first, begin), min(last, end), begin, end - question.width):
+                # Two places from the end of the cell at least, so that no place beside x is one of its ends.
                 middle = low if low == high else low + 1
                 forms.append(Form(basis, low, high, middle, question))
     return forms

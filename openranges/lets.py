@@ -111,4 +111,3 @@ def _inside(world, row, costs, far):
             found = [held for _, _, held in pieces[goal]] + [held + line for _, _, held in pieces[start]]
             pieces[goal] = lowest(found, first, last)
     return pieces
-
