@@ -4,8 +4,9 @@ from openranges.integers import decimal
 from openranges.lines import Line
 from openranges.words import check_factor, check_sign, check_two_words, check_word
 
-_SIGNS = ("<=", ">=", "=")
-_WAYS = ("up", "down")
+SIGNS = ("<=", ">=", "=")
+WAYS = ("up", "down")
+
 _TURNED = {"<=": ">=", ">=": "<=", "=": "=", "up": "down", "down": "up"}
 
 
@@ -113,7 +114,7 @@ class Spreads:
 
     def __init__(self, function, places, way):
         check_word(function)
-        check_sign(way, _WAYS)
+        check_sign(way, WAYS)
         self.kind = "spreads"
         self.function = function
         self.places = places
@@ -149,7 +150,7 @@ class Bound:
 
     def __init__(self, function, places, sign, slope, height):
         check_word(function)
-        check_sign(sign, _SIGNS)
+        check_sign(sign, SIGNS)
         self.kind = "bound"
         self.function = function
         self.places = places
@@ -193,7 +194,7 @@ class Pair:
 
     def __init__(self, function, places, sign, other, slope, height):
         check_two_words(function, other)
-        check_sign(sign, _SIGNS)
+        check_sign(sign, SIGNS)
         self.kind = "pair"
         self.function = function
         self.places = places
@@ -240,7 +241,7 @@ class Step:
 
     def __init__(self, function, places, sign, height):
         check_word(function)
-        check_sign(sign, _SIGNS)
+        check_sign(sign, SIGNS)
         self.kind = "step"
         self.function = function
         self.places = places
@@ -275,6 +276,20 @@ class Step:
 def is_clause(value):
     """Whether any value is a clause."""
     return isinstance(value, (Answers, Refuses, Needs, Spreads, Bound, Pair, Step))
+
+
+def has_number(value):
+    """Whether any value is a clause about numbers, so that it has a sign and a height."""
+    return isinstance(value, (Bound, Pair, Step))
+
+
+def with_height(clause, height):
+    """The same clause about numbers with another height."""
+    if clause.kind == "bound":
+        return Bound(clause.function, clause.places, clause.sign, clause.slope, height)
+    if clause.kind == "pair":
+        return Pair(clause.function, clause.places, clause.sign, clause.other, clause.slope, height)
+    return Step(clause.function, clause.places, clause.sign, height)
 
 
 def _beginning(clause):

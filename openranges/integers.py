@@ -27,3 +27,23 @@ def decimal(number):
     blocks.append(str(rest))
     digits = "".join(blocks[::-1])
     return digits if number >= 0 else "-" + digits
+
+
+def read_decimal(text):
+    """The integer that is written as this string, as decimal writes it; None if there is none."""
+    digits = text[1:] if text.startswith("-") else text
+    # Python has other digits than 0 to 9.
+    if not (digits.isascii() and digits.isdigit()) or (digits[0] == "0" and text != "0"):
+        return None
+    # Python refuses to read more than 4300 digits at once.
+    padded = "0" * (-len(digits) % _BLOCK_DIGITS) + digits
+    number = 0
+    for begin in range(0, len(padded), _BLOCK_DIGITS):
+        number = number * _BLOCK + int(padded[begin:begin + _BLOCK_DIGITS])
+    return number if digits == text else -number
+
+
+def read_place(text):
+    """The place that is written as this string, or None."""
+    number = read_decimal(text)
+    return number if is_place(number) else None

@@ -31,6 +31,25 @@ def can_answer(rules, calls):
     return barred_call(rules, grown) is None and _walk(rules, calls, grown, ())[1] is None
 
 
+def check_possible(rules):
+    """Raises Impossible if no program is let."""
+    if not can_answer(rules, []):
+        raise Impossible()
+
+
+def answers_at(rules, call):
+    """The least and the greatest answer at a call, None for no bound; None if no let program answers it."""
+    grown = grown_set(rules, [call])
+    if barred_call(rules, grown) is not None:
+        return None
+    costs, found = _walk(rules, [call], grown, (call,))
+    if found is not None:
+        return None
+    low = costs.get((0, None))
+    high = costs.get((None, 0))
+    return (None if low is None else -low[0], None if high is None else high[0])
+
+
 def cheapest(rules, start, goal, *, asked=()):
     """The least cost of a chain from start to goal, calls or None, with such a chain; None if there is none."""
     calls = _check_ends(rules, start, goal, asked)

@@ -3,7 +3,7 @@
 from openranges.grown import grown_set
 from openranges.lines import Line, lowest
 from openranges.programs import Program
-from openranges.worlds import World, cell_nodes, step_hops, upright_hops
+from openranges.worlds import World, cell_nodes, cost_limit, step_hops, upright_hops
 
 
 def let_program(rules, asked, start, number):
@@ -16,7 +16,8 @@ def let_program(rules, asked, start, number):
     world = World(rules, [place for _, place in asked])
     rows = [cell_nodes(world, cell, grown.functions_at(ends[0])) for cell, ends in enumerate(world.cells)]
     nodes = [node for row in rows for node in row]
-    far = _far(rules, len(nodes), number)
+    # More than any chain without a ring costs, and more than the number on top of any that costs less than 0.
+    far = 2 * cost_limit(world) + abs(number) + 1
     costs = {(function, node.place): far for node in nodes for function in node.functions}
     costs[None] = far
     costs[start] = 0
@@ -25,17 +26,6 @@ def let_program(rules, asked, start, number):
     for function in rules.functions:
         told[function] = [piece for row in rows for piece in _pieces(world, row, function, costs, far)]
     return Program(rules.last, told)
-
-
-def _far(rules, many, number):
-    """More than any chain without a ring costs, and more than a number on top of any that costs less than 0."""
-    greatest = 1
-    for clause in rules.told:
-        if clause.kind == "bound" or clause.kind == "pair":
-            greatest = max(greatest, abs(clause.slope) * rules.last + abs(clause.height))
-        elif clause.kind == "step":
-            greatest = max(greatest, abs(clause.height) * rules.last)
-    return 2 * greatest * (many * len(rules.functions) + 4) + abs(number) + 1
 
 
 def _hops_of_nodes(world, nodes):

@@ -1,10 +1,8 @@
 """Finite sets of places, told by stretches."""
 
 from openranges.errors import BadStretch, BadText, NoPlace
-from openranges.integers import LAST_PLACE, is_integer, is_place
+from openranges.integers import LAST_PLACE, is_integer, is_place, read_place
 from openranges.overlaps import overlaps
-
-_MOST_DIGITS = 31
 
 
 class Places:
@@ -107,13 +105,18 @@ class Places:
             if len(words) > 1:
                 raise BadText(1)
             return cls()
-        stretches = []
-        for index, word in enumerate(words):
-            stretch = _read_stretch(word)
-            if stretch is None or (stretches and stretch[0] < stretches[-1][1] + 2):
-                raise BadText(index)
-            stretches.append(stretch)
-        return cls(stretches)
+        return cls(read_stretches(words, 0, len(words), LAST_PLACE))
+
+
+def read_stretches(words, begin, end, last):
+    """The stretches that are written as the words from begin to ahead of end, with no place above last."""
+    stretches = []
+    for index in range(begin, end):
+        stretch = _read_stretch(words[index])
+        if stretch is None or stretch[1] > last or (stretches and stretch[0] < stretches[-1][1] + 2):
+            raise BadText(index)
+        stretches.append(stretch)
+    return stretches
 
 
 def _is_stretch(value):
@@ -189,23 +192,12 @@ def _stretch_text(first, last):
 def _read_stretch(word):
     """The stretch that is written as this word, or None."""
     start, dash, end = word.partition("-")
-    first = _read_place(start)
+    first = read_place(start)
     if first is None:
         return None
     if not dash:
         return (first, first)
-    last = _read_place(end)
+    last = read_place(end)
     if last is None or first >= last:
         return None
     return (first, last)
-
-
-def _read_place(digits):
-    """The place that is written as these digits, or None."""
-    # Python has other digits than 0 to 9, and refuses to read very long numbers.
-    if not (digits.isascii() and digits.isdigit()) or len(digits) > _MOST_DIGITS:
-        return None
-    if digits[0] == "0" and digits != "0":
-        return None
-    number = int(digits)
-    return number if number <= LAST_PLACE else None

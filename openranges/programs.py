@@ -1,6 +1,6 @@
 """Programs: what each function answers at each place, told by straight pieces."""
 
-from openranges.clauses import Bound, Pair, Step
+from openranges.clauses import has_number, with_height
 from openranges.errors import BadKind, BadPieces, NoFunction, NoPlace, OtherShape
 from openranges.integers import is_place
 from openranges.lines import Line, highest, lowest, value_at
@@ -122,15 +122,15 @@ def first_difference(one, other):
 def mined(programs, clause):
     """The strongest clause that differs from the given one in height alone and that all programs keep."""
     _check_shapes(programs)
-    if not isinstance(clause, (Bound, Pair, Step)) or clause.sign == "=":
+    if not has_number(clause) or clause.sign == "=":
         raise BadKind()
     heights = []
     for program in programs:
-        for first, last, one, other in _compared(program, _with_height(clause, 0), clause.places):
+        for first, last, one, other in _compared(program, with_height(clause, 0), clause.places):
             heights.extend([value_at(one - other, first), value_at(one - other, last)])
     if not heights:
         return None
-    return _with_height(clause, max(heights) if clause.sign == "<=" else min(heights))
+    return with_height(clause, max(heights) if clause.sign == "<=" else min(heights))
 
 
 def _ranked(word):
@@ -271,15 +271,6 @@ def _compared(program, clause, places):
     both = [(first, last, (one, other)) for first, last, one, other in side_by_side(ones, others)]
     told = side_by_side([(first, last, None) for first, last in places.stretches], both)
     return [(first, last, pair[0], pair[1]) for first, last, _, pair in told]
-
-
-def _with_height(clause, height):
-    """The same clause with another height."""
-    if clause.kind == "bound":
-        return Bound(clause.function, clause.places, clause.sign, clause.slope, height)
-    if clause.kind == "pair":
-        return Pair(clause.function, clause.places, clause.sign, clause.other, clause.slope, height)
-    return Step(clause.function, clause.places, clause.sign, height)
 
 
 _BREACHES = {

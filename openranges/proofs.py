@@ -108,16 +108,32 @@ def _parts_of(form, question):
         if form.middle + by in form.grown.have[function]:
             return [Part(form.first, form.last, form, "grown", (function, form.middle + by))]
     if len(question.sums) < 2:
-        return _runs(form, question.sums[0] if question.sums else None)
-    ones, others = [[(part.first, part.last, part) for part in _runs(form, each)] for each in question.sums]
+        return _chain_parts(form, question.sums[0] if question.sums else None)
+    ones, others = [[(part.first, part.last, part) for part in _chain_parts(form, each)] for each in question.sums]
     return [one.beside(first, last, other) for first, last, one, other in side_by_side(ones, others)]
 
 
+def answered_stretch(form):
+    """The (first, last) of the x of a form at which its asked calls can be answered, or None."""
+    if barred_call(form.basis.rules, form.grown) is not None:
+        return None
+    ahead, behind = _runs(form, None)
+    first = ahead[-1].last + 1 if ahead else form.first
+    last = behind[0].first - 1 if behind else form.last
+    return (first, last) if first <= last else None
+
+
 def _runs(form, wanted):
-    """The parts that chains show. What they leave open is one stretch, so parts are found from both ends."""
+    """The parts that chains show from the first x on, and up to the last x. What lies between is not shown."""
     ahead = _run_up(form, wanted)
     low = ahead[-1].last + 1 if ahead else form.first
-    return ahead + _run_down(form, wanted, low)[::-1]
+    return (ahead, _run_down(form, wanted, low)[::-1])
+
+
+def _chain_parts(form, wanted):
+    """All parts that chains show."""
+    ahead, behind = _runs(form, wanted)
+    return ahead + behind
 
 
 def _run_up(form, wanted):

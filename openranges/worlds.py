@@ -70,6 +70,19 @@ def step_hops(world, one, other):
     return hops
 
 
+def cost_limit(world):
+    """As much as any chain without a ring costs at most, wherever it turns."""
+    last = world.rules.last
+    greatest = 1
+    for clause in world.rules.told:
+        if clause.kind == "bound" or clause.kind == "pair":
+            greatest = max(greatest, abs(clause.slope) * last + abs(clause.height))
+        elif clause.kind == "step":
+            greatest = max(greatest, abs(clause.height) * last)
+    # Each cell has two nodes at most, and one place beside them may be of interest.
+    return greatest * (2 * len(world.cells) * len(world.rules.functions) + 4)
+
+
 def _cells(rules, places):
     begins = {0: True}
     for clause in rules.told:
