@@ -9,11 +9,12 @@ class World:
     def __init__(self, rules, places=()):
         self.rules = rules
         self.cells = _cells(rules, places)
-        covers = [_covering(rules, first) for first, _ in self.cells]
+        covers = self._covers()
+        steps = [[index for index in cover if rules.told[index].kind == "step"] for cover in covers]
         self.uprights = [_uprights(rules, cover) for cover in covers]
-        self.steps_inside = [_best_steps(rules, cover) for cover in covers]
+        self.steps_inside = [_best_steps(rules, cover) for cover in steps]
         self.steps_between = []
-        for one, other in zip(covers, covers[1:]):
+        for one, other in zip(steps, steps[1:]):
             self.steps_between.append(_best_steps(rules, [index for index in one if index in other]))
 
     def cell_at(self, place):
@@ -27,6 +28,15 @@ class World:
             else:
                 low = middle + 1
         return low
+
+    def _covers(self):
+        """For each cell the indexes of the clauses that have its places."""
+        covers = [[] for _ in self.cells]
+        for index, clause in enumerate(self.rules.told):
+            for first, last in clause.places.stretches:
+                for cell in range(self.cell_at(first), self.cell_at(last) + 1):
+                    covers[cell].append(index)
+        return covers
 
 
 class Node:
@@ -97,11 +107,6 @@ def _cells(rules, places):
     return list(zip(firsts, lasts))
 
 
-def _covering(rules, place):
-    """The indexes of the clauses that have a place."""
-    return [index for index, clause in enumerate(rules.told) if place in clause.places]
-
-
 def _uprights(rules, cover):
     """What bounds and pairs allow: (start, goal, line, index), the line the cost by the place."""
     rows = []
@@ -121,11 +126,10 @@ def _best_steps(rules, cover):
     best = {}
     for index in cover:
         clause = rules.told[index]
-        if clause.kind == "step":
-            if clause.sign != ">=":
-                _keep_least(best, (clause.function, True), (clause.height, index))
-            if clause.sign != "<=":
-                _keep_least(best, (clause.function, False), (-clause.height, index))
+        if clause.sign != ">=":
+            _keep_least(best, (clause.function, True), (clause.height, index))
+        if clause.sign != "<=":
+            _keep_least(best, (clause.function, False), (-clause.height, index))
     return best
 
 
