@@ -74,3 +74,15 @@ def free_clause(chance, rules):
     if others:
         made += [Needs(f, places, others[0]), Pair(f, places, sign, others[0], slope, height)]
     return chance.choice(made)
+
+
+def with_bounds(chance, program, rules, often):
+    """The rules with bounds on both sides of most functions, which the program keeps."""
+    every = Places([(0, rules.last)])
+    told = list(rules.told)
+    for f in program.functions:
+        for sign in ("<=", ">="):
+            bound = mined([program], Bound(f, every, sign, chance.randint(-1, 1), 0))
+            if bound is not None and chance.random() < often:
+                told.append(bound)
+    return Rules(rules.functions, rules.last, told)

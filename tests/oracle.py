@@ -115,6 +115,55 @@ class World:
     def can_answer(self, calls):
         return self.asked(calls)[1] is not None
 
+    def status(self, one):
+        """The status of a call."""
+        if one in self.asked([])[0]:
+            return "answers"
+        return "open" if self.can_answer([one]) else "refuses"
+
+    def range_at(self, one):
+        """The range of a call, or None if no let program answers it."""
+        least = self.asked([one])[1]
+        if least is None:
+            return None
+        low = least.get((one, None))
+        return (None if low is None else -low, least.get((None, one)))
+
+    def fixed(self, function):
+        """The places at which all let programs have one outcome."""
+        found = []
+        for x in range(self.rules.last + 1):
+            ends = self.range_at((function, x))
+            if ends is None or (self.status((function, x)) == "answers" and ends[0] is not None and ends[0] == ends[1]):
+                found.append(x)
+        return found
+
+    def excess(self, shape, x):
+        """How far chains get above a shape with the height 0 at x: an integer, "none" or None for no answers there."""
+        f = shape.function
+        start, goal = (None, (f, x)) if shape.kind == "bound" else ((f, x), (f, x + 1))
+        line = 0 if shape.kind == "step" else shape.slope * x
+        if shape.kind == "pair":
+            start, goal = (shape.other, x), (f, x)
+        if shape.sign == ">=":
+            start, goal, line = goal, start, -line
+        least = self.asked([one for one in (start, goal) if one is not None])[1]
+        if least is None:
+            return None
+        return least[(start, goal)] - line if (start, goal) in least else "none"
+
+    def strongest(self, shape):
+        """What point 19 says of a shape."""
+        found = [(x, self.excess(shape, x)) for x in speaks_of(shape)]
+        found = [(x, excess) for x, excess in found if excess is not None]
+        endless = [x for x, excess in found if excess == "none"]
+        if endless:
+            return ("none", None, endless[0])
+        if not found:
+            return ("all", None, None)
+        most = max(excess for _, excess in found)
+        return ("number", most if shape.sign == "<=" else -most, [x for x, excess in found if excess == most][0])
+
     def kept(self, claim, x):
         """Whether every let program keeps a claim at x."""
         if not self.can_answer([]):
