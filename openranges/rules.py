@@ -5,7 +5,7 @@ from openranges.errors import BadFunctions, NoClause, NoFunction, NoPlace, TooMa
 from openranges.integers import is_place
 from openranges.words import check_word
 
-_MOST_FUNCTIONS = 3
+MOST_FUNCTIONS = 3
 _MOST_CLAUSES = 60
 
 
@@ -43,7 +43,7 @@ def check_fits(clause, functions, last):
 
 
 def _check_functions(functions):
-    if not 1 <= len(functions) <= _MOST_FUNCTIONS:
+    if not 1 <= len(functions) <= MOST_FUNCTIONS:
         raise BadFunctions(len(functions))
     for index, word in enumerate(functions):
         check_word(word)

@@ -1,9 +1,10 @@
-"""What the arguments of clauses and programs must be: words, signs, factors."""
+"""What the arguments of clauses, programs and specifications must be: words, names, signs, factors."""
 
-from openranges.errors import BadFactor, BadSign, BadWord, SameFunction
+from openranges.errors import BadFactor, BadName, BadSign, BadWord, SameFunction
 from openranges.integers import is_integer
 
 _LETTERS = "abcdefghijklmnopqrstuvwxyz"
+_DIGITS = "0123456789"
 _MOST_LETTERS = 8
 
 
@@ -26,6 +27,19 @@ def check_two_words(function, other):
     check_word(other)
     if function == other:
         raise SameFunction(function)
+
+
+def is_name(value):
+    """Whether any value is a string of 1 to 8 small letters and digits that begins with a letter."""
+    if not isinstance(value, str) or not 1 <= len(value) <= _MOST_LETTERS:
+        return False
+    return value[0] in _LETTERS and all([sign in _LETTERS or sign in _DIGITS for sign in value])
+
+
+def check_name(value):
+    """Raises BadName unless any value is a name."""
+    if not is_name(value):
+        raise BadName(value)
 
 
 def check_sign(value, allowed):

@@ -24,7 +24,7 @@ namedtuple NamedTuple TypedDict TYPE_CHECKING abstractmethod dataclass overload 
 BARRED_ATTRIBUTES = set("""items keys values pop update append clear extend insert remove reverse setdefault sort args encode
 decode hex fromhex format format_map mro""".split())
 BARRED_NODES = (ast.AsyncFunctionDef, ast.Await, ast.AsyncFor, ast.AsyncWith, ast.Global, ast.Import, ast.Set, ast.SetComp,
-                ast.GeneratorExp, ast.Lambda, ast.Try, ast.With, ast.Yield, ast.YieldFrom, ast.AnnAssign, ast.Match,
+                ast.GeneratorExp, ast.Lambda, ast.With, ast.Yield, ast.YieldFrom, ast.AnnAssign, ast.Match,
                 ast.Nonlocal, ast.NamedExpr, ast.Assert, ast.Bytes if hasattr(ast, "Bytes") else ast.Await)
 
 
@@ -52,6 +52,8 @@ class Found:
                 self.own_class(node)
             if isinstance(node, ast.FunctionDef):
                 self.function(node)
+            if isinstance(node, ast.Try):
+                self.tried(node)
         self.words()
         return sorted(self.rows, key=str)
 
@@ -133,6 +135,16 @@ class Found:
         if isinstance(node.ctx, ast.Del):
             self.say(node, "L6: del of an attribute")
 
+    def tried(self, node):
+        """Own errors alone are caught, and at the end attributes are set."""
+        for handler in node.handlers:
+            name = getattr(handler.type, "id", None)
+            if not isinstance(self.bound.get(name), ast.ImportFrom) or self.bound[name].module != "openranges.errors":
+                self.say(handler, f"L19: {name} is caught")
+        for each in node.finalbody:
+            if not isinstance(each, ast.Assign) or any(isinstance(part, ast.Call) for part in ast.walk(each)):
+                self.say(each, "L6: a statement in a finally")
+
     def iterated(self, node):
         if isinstance(node, ast.Call) and isinstance(node.func, ast.Name) and node.func.id == "set":
             self.say(node, "L24: iterating over a set")
@@ -169,6 +181,7 @@ class Found:
     def locals_of(self, node):
         names = {each.arg for each in [*node.args.args, *node.args.kwonlyargs]}
         names |= {each.id for each in ast.walk(node) if isinstance(each, ast.Name) and isinstance(each.ctx, ast.Store)}
+        names |= {each.name for each in ast.walk(node) if isinstance(each, ast.ExceptHandler) and each.name}
         imported = {name for name, at in self.bound.items() if isinstance(at, (ast.ImportFrom, ast.ClassDef))}
         for name in names:
             if name in imported:
