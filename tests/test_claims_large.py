@@ -10,6 +10,7 @@ from openranges.places import Places
 from openranges.rules import Rules
 from tests.large import FUNCTIONS, free_clause, read_off, some_large, some_stretches
 from tests.plain import chance_of
+from tests.turned import with_sign
 from tests.values import FAR
 
 
@@ -18,12 +19,6 @@ def cases(seed, many, sizes=(4, 10, 25)):
     for _ in range(many):
         program, rules = some_large(chance, chance.choice(sizes), FUNCTIONS[:chance.randint(1, 3)])
         yield chance, program, rules
-
-
-def with_sign(claim, sign):
-    """The same claim with another sign."""
-    arguments = {"bound": ("slope", "height"), "pair": ("other", "slope", "height"), "step": ("height",)}[claim.kind]
-    return type(claim)(claim.function, claim.places, sign, *[getattr(claim, name) for name in arguments])
 
 
 def kept(rules, claim, x):
