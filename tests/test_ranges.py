@@ -30,6 +30,23 @@ def possible_worlds(seed, many):
                 yield chance, rules, world
 
 
+def crossing_worlds(seed, many):
+    """Small worlds with lines over all places that cross, so that calls are refused in the midst of stretches."""
+    chance = chance_of(seed)
+    for _ in range(many):
+        last = chance.randint(4, 16)
+        every = Places([(0, last)])
+        told = []
+        for f in ("f", "g"):
+            told += [Bound(f, every, ">=", chance.randint(-3, 3), chance.randint(-12, 6)) for _ in range(chance.randint(1, 2))]
+            told += [Bound(f, every, "<=", chance.randint(-3, 3), chance.randint(-6, 12)) for _ in range(chance.randint(1, 2))]
+        told += [Pair("f", every, chance.choice(("<=", ">=", "=")), "g", chance.randint(-2, 2), chance.randint(-9, 9))]
+        told += [Needs("f", every, "g")] * chance.choice((0, 1)) + [Step("f", every, ">=", -1)] * chance.choice((0, 1))
+        told += [Spreads("g", every, chance.choice(("up", "down")))] * chance.choice((0, 0, 1))
+        rules = Rules(["f", "g"], last, told)
+        yield chance, rules, oracle.World(rules)
+
+
 def with_ends(chance, rules):
     """The rules with bounds on both sides at most places, so that many of them have such programs."""
     told = list(rules.told)
@@ -117,6 +134,21 @@ class Plainly(unittest.TestCase):
             for x in range(rules.last + 1):
                 self.assertEqual(read(pieces, x), (world.status((f, x)), world.range_at((f, x))), (f, x, rules.told))
             self.assertIs(is_table(rules, f, pieces), True)
+
+    def test_refusals_in_the_midst_of_stretches(self):
+        found = {"ahead": 0, "behind": 0, "both": 0}
+        for _, rules, world in crossing_worlds(192, 250):
+            for f in rules.functions:
+                pieces = table(rules, f)
+                for x in range(rules.last + 1):
+                    self.assertEqual(read(pieces, x), (world.status((f, x)), world.range_at((f, x))), (f, x, rules.told))
+                self.assertTrue(is_table(rules, f, pieces))
+                self.assertEqual(members(fixed(rules, f)), world.fixed(f))
+                names = [piece[2] for piece in pieces]
+                key = {(True, False): "ahead", (False, True): "behind", (True, True): "both"}
+                if "open" in names and "refuses" in (names[0], names[-1]):
+                    found[key[(names[0] == "refuses", names[-1] == "refuses")]] += 1
+        self.assertGreater(min(found.values()), 4, found)
 
     def test_what_is_fixed(self):
         found = {"fixed": 0, "refused": 0, "free": 0}

@@ -151,6 +151,22 @@ class Written(unittest.TestCase):
             rules = Rules(["f"], FAR, [Bound("f", every, "<=", -slope, 10), Bound("f", every, ">=", 0, 0)])
             wanted = [(0, turn, "open", Line(0, 0), Line(-slope, 10)), (turn + 1, FAR, "refuses", None, None)]
             self.assertTrue(is_table(rules, "f", wanted))
+            self.assertTrue(is_table(turned.mirrored(rules), "f", turned.table_mirrored(wanted, FAR)))
+
+    def test_where_a_range_is_empty_at_either_end_of_a_stretch(self):
+        every = Places([(0, FAR)])
+        for at in (7, 10 ** 12, FAR - 7):
+            for first, last in ((at, at), (at - 1, at + 1), (at - 5, at + 2)):
+                told = [Bound("f", every, ">=", 2, -2 * last), Bound("f", every, ">=", -3, 3 * first), Bound("f", every, "<=", 0, 0)]
+                rules = Rules(["f"], FAR, told)
+                low = range_at(rules, "f", at)[0]
+                self.assertEqual(low, max(2 * (at - last), 3 * (first - at)))
+                self.assertEqual([status(rules, "f", x) for x in (first - 1, first, last, last + 1)], ["refuses", "open", "open", "refuses"])
+                self.assertTrue(fixed(rules, "f") == Places([(0, first - 1), (last + 1, FAR)]))
+                pieces = table(rules, "f")
+                for x in (0, first - 1, first, first + 1, last - 1, last, last + 1, FAR):
+                    if 0 <= x <= FAR:
+                        self.assertEqual(read(pieces, x), (status(rules, "f", x), range_at(rules, "f", x)))
 
     def test_many_lines(self):
         every = Places([(0, FAR)])

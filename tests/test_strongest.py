@@ -15,7 +15,7 @@ from tests.large import some_stretches, with_bounds
 from tests.plain import chance_of, some_clause, speaks_of
 from tests.refusing import Refusing
 from tests.test_clauses import all_made
-from tests.test_ranges import BROKEN, RULES, possible_worlds, with_ends
+from tests.test_ranges import BROKEN, RULES, crossing_worlds, possible_worlds, with_ends
 from tests.test_ranges_large import cases
 from tests.values import BIG, FAR
 
@@ -120,6 +120,15 @@ class Plainly(unittest.TestCase):
                 found[key] = found.get(key, 0) + 1
         self.assertEqual(len(found), 18)
         self.assertGreater(min(found.values()), 10, found)
+
+    def test_lines_that_cross(self):
+        found = {}
+        for chance, rules, world in crossing_worlds(237, 200):
+            for shape in shapes(chance, rules, 6):
+                told = strongest(rules, shape)
+                self.assertEqual(told, world.strongest(shape), (shape.text(), rules.told))
+                found[told[0]] = found.get(told[0], 0) + 1
+        self.assertGreater(found["number"], 300, found)
 
     def test_the_height_means_nothing(self):
         for chance, rules, _ in possible_worlds(232, 150):
