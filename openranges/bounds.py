@@ -1,8 +1,7 @@
 """Least costs of chains for all x of a form at which its asked calls can be answered."""
 
-from openranges.hops import hops_line
-from openranges.lines import first_above, value_at
-from openranges.walks import hops_of
+from openranges.lines import Line, first_above, value_at
+from openranges.pieces import line_through
 
 
 def least_costs(form, first, last, start, goal):
@@ -10,20 +9,24 @@ def least_costs(form, first, last, start, goal):
 
     Start and goal are calls that the form asks, or None for nought. Without a chain there is one piece, with None.
     """
-    one = _cost_line(form, first, start, goal)
-    if one is None:
+    key = (form.label(start), form.label(goal))
+    if key not in form.costs_at(first)[0]:
         return [(first, last, None)]
-    other = _cost_line(form, last, start, goal)
-    # The least cost is the least of some lines: one that tells it at both ends tells it all along.
-    if value_at(one, last) == value_at(other, last):
+    return _cost_pieces(form, key, first, last)
+
+
+def _cost_pieces(form, key, first, last):
+    """The least costs between two labels, which are the least of some lines, as pieces."""
+    if first == last:
+        return [(first, last, Line(0, _cost(form, key, first)))]
+    # A line through the costs at two places side by side is nowhere below the cost.
+    one = line_through(first, _cost(form, key, first), _cost(form, key, first + 1))
+    if value_at(one, last) == _cost(form, key, last):
         return [(first, last, one)]
-    if value_at(one, first) == value_at(other, first):
-        return [(first, last, other)]
+    other = line_through(last - 1, _cost(form, key, last - 1), _cost(form, key, last))
     turn = first_above(one, other, first)
-    return least_costs(form, first, turn - 1, start, goal) + least_costs(form, turn, last, start, goal)
+    return _cost_pieces(form, key, first, turn - 1) + _cost_pieces(form, key, turn, last)
 
 
-def _cost_line(form, x, start, goal):
-    """The line of the cost of a chain that is a cheapest one at x; None if there is no chain."""
-    found = form.costs_at(x)[0].get((form.label(start), form.label(goal)))
-    return None if found is None else hops_line(form.basis.rules, hops_of(found[1]))
+def _cost(form, key, x):
+    return form.costs_at(x)[0][key][0]

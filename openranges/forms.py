@@ -19,32 +19,48 @@ class Basis:
 
 
 class Side:
-    """The states of walks over cells in one order, kept for each way in which the cells may be grown."""
+    """The states of walks over cells in one order, kept for each way in which the cells may be grown.
+
+    What is grown further than in the basis is a tuple of (low, high, function): the cells by their index in the order.
+    """
 
     def __init__(self, world, members, order, backward):
         self._world = world
+        self._members = members
         self._order = order
         self._backward = backward
         self._states = [(begun(), None)]
         self._numbers = {}
+        self._known = {}
         self._plain = [0]
         for at in range(len(order)):
-            self._plain.append(self._further(self._plain[at], at, members))
+            self._plain.append(self._further(self._plain[at], at, ()))
 
-    def walk(self, many, members, same):
-        """The state over so many cells and their last node; the first ones, so many, are grown as in the basis."""
-        number = self._plain[min(same, many)]
-        for at in range(min(same, many), many):
-            number = self._further(number, at, members)
+    def walk(self, many, further):
+        """The state over so many cells and their last node."""
+        further = _up_to(further, many)
+        unknown = []
+        while further and (many, further) not in self._known:
+            unknown.append((many, further))
+            many = many - 1
+            further = _up_to(further, many)
+        number = self._known[(many, further)] if further else self._plain[many]
+        for key in unknown[::-1]:
+            number = self._further(number, key[0] - 1, key[1])
+            self._known[key] = number
         return self._states[number]
 
-    def _further(self, number, at, members):
+    def _further(self, number, at, further):
         """The number of the state with one more cell."""
         cell = self._order[at]
-        key = (number, members[cell])
+        more = [function for low, high, function in further if low <= at <= high]
+        members = self._members[cell]
+        if more:
+            members = tuple([one for one in self._world.rules.functions if one in members or one in more])
+        key = (number, members)
         if key not in self._numbers:
             state, before = self._states[number]
-            nodes = cell_nodes(self._world, cell, members[cell])
+            nodes = cell_nodes(self._world, cell, members)
             if self._backward:
                 nodes = nodes[::-1]
             self._numbers[key] = len(self._states)
@@ -100,19 +116,16 @@ class Form:
 
     def _walk_sides(self):
         """The walks from the left and from the right up to the cells of x."""
-        world = self.basis.world
-        members = list(self.basis.members)
-        many = len(members)
-        low = many
-        high = -1
-        for function in self.basis.rules.functions:
-            for first, last in (self.grown.have[function] - self.basis.grown.have[function]).stretches:
-                for cell in range(world.cell_at(first), world.cell_at(last) + 1):
-                    members[cell] = self.grown.functions_at(world.cells[cell][0])
-                    low = min(low, cell)
-                    high = max(high, cell)
-        left = self.basis.left.walk(self._begin, members, low)
-        return (left, self.basis.right.walk(many - 1 - self._end, members, many - 1 - high))
+        basis = self.basis
+        many = len(basis.world.cells)
+        ahead = []
+        behind = []
+        for function in basis.rules.functions:
+            for first, last in (self.grown.have[function] - basis.grown.have[function]).stretches:
+                low, high = basis.world.cell_at(first), basis.world.cell_at(last)
+                ahead.append((low, high, function))
+                behind.append((many - 1 - high, many - 1 - low, function))
+        return (basis.left.walk(self._begin, tuple(ahead)), basis.right.walk(many - 1 - self._end, tuple(behind)))
 
     def _nodes_at(self, x):
         """The nodes of the cells of x, from left to right."""
@@ -128,6 +141,11 @@ class Form:
             moved = place if isinstance(spot, int) else place + x - self.middle
             nodes.append(Node(moved, spot, places[place], self.grown.functions_at(place)))
         return nodes
+
+
+def _up_to(further, many):
+    """What is grown further in the first cells, so many."""
+    return tuple([(low, min(high, many - 1), function) for low, high, function in further if low < many])
 
 
 def forms_of(basis, places, question):

@@ -23,13 +23,13 @@ def _continued(row, first, last, line):
     if held is None or line is None:
         return (start, last, None) if held is None and line is None else row
     if start == end:
-        held = _line_through(start, value_at(held, start), value_at(line, first))
+        held = line_through(start, value_at(held, start), value_at(line, first))
     elif value_at(held, first) != value_at(line, first):
         return row
     return (start, last if held.slope == line.slope else first, held)
 
 
-def _line_through(x, here, beyond):
+def line_through(x, here, beyond):
     """The line with these values at x and at x + 1."""
     slope = beyond - here
     return Line(slope, here - slope * x)

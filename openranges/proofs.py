@@ -84,8 +84,7 @@ def wrong_part(basis):
     bar = barred_call(basis.rules, basis.grown)
     if bar is not None:
         return Part(0, 0, plain, "bar", bar)
-    many = len(basis.members)
-    ring = basis.left.walk(many, basis.members, many)[0][1]
+    ring = basis.left.walk(len(basis.members), ())[0][1]
     return None if ring is None else Part(0, 0, plain, "ring", (shortened(hops_of(ring), 0),))
 
 
