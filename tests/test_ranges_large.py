@@ -134,6 +134,22 @@ class Written(unittest.TestCase):
         spread = [(0, at - 1, "open", Line(1, 0), Line(1, 0)), *alone[2:]]
         self.assertTrue(is_table(Rules(["f"], FAR, told), "f", spread))
 
+    def test_a_bound_by_way_of_calls_far_off_that_must_be_answered(self):
+        every = Places([(0, FAR)])
+        at = FAR // 2
+        # An answer of f at x brings those behind it, and those of g far behind; what is told of g beside them is no matter.
+        for width in (1, 2, 10 ** 9):
+            there = Places([(at, at + width - 1)])
+            for near in (Places([(at, at)]), Places([(at + width - 1, at + width - 1)]), there):
+                told = [Spreads("f", every, "up"), Step("f", every, ">=", 1), Needs("g", there, "f"),
+                        Pair("f", every, "<=", "g", 0, 2), Bound("g", near, "<=", 0, 7),
+                        Bound("g", Places([(at - 3, at - 1), (at + width, at + width + 2)]), "<=", 0, -99)]
+                rules = Rules(["g", "f"], FAR, told)
+                high = near.greatest()
+                wanted = [(0, high, "open", None, Line(1, 9 - high)), (high + 1, FAR, "open", None, None)]
+                self.assertTrue(is_table(rules, "f", wanted), (width, near.text()))
+                self.assertTrue(is_table(turned.mirrored(rules), "f", turned.table_mirrored(wanted, FAR)))
+
     def test_a_function_pinned_by_way_of_two_others(self):
         every = Places([(0, FAR)])
         mid = Places([(FAR // 4, FAR // 2)])
