@@ -34,7 +34,7 @@ class Side:
         self._known = {}
         self._plain = [0]
         for at in range(len(order)):
-            self._plain.append(self._further(self._plain[at], at, ()))
+            self._plain.append(self._one_more(self._plain[at], at, ()))
 
     def walk(self, many, further):
         """The state over so many cells and their last node."""
@@ -46,11 +46,11 @@ class Side:
             further = _up_to(further, many)
         number = self._known[(many, further)] if further else self._plain[many]
         for key in unknown[::-1]:
-            number = self._further(number, key[0] - 1, key[1])
+            number = self._one_more(number, key[0] - 1, key[1])
             self._known[key] = number
         return self._states[number]
 
-    def _further(self, number, at, further):
+    def _one_more(self, number, at, further):
         """The number of the state with one more cell."""
         cell = self._order[at]
         more = [function for low, high, function in further if low <= at <= high]

@@ -25,7 +25,7 @@ BARRED_ATTRIBUTES = set("""items keys values pop update append clear extend inse
 decode hex fromhex format format_map mro""".split())
 BARRED_NODES = (ast.AsyncFunctionDef, ast.Await, ast.AsyncFor, ast.AsyncWith, ast.Global, ast.Import, ast.Set, ast.SetComp,
                 ast.GeneratorExp, ast.Lambda, ast.With, ast.Yield, ast.YieldFrom, ast.AnnAssign, ast.Match,
-                ast.Nonlocal, ast.NamedExpr, ast.Assert, ast.Bytes if hasattr(ast, "Bytes") else ast.Await)
+                ast.Nonlocal, ast.NamedExpr, ast.Assert)
 
 
 class Found:
