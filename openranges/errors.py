@@ -64,7 +64,7 @@ class BadPieces(RangesError):
 
 
 class OtherShape(RangesError):
-    """Functions or last places differ."""
+    """Functions, in specifications also their order, or last places differ."""
 
 
 class BadKind(RangesError):

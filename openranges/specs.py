@@ -124,8 +124,8 @@ class Spec:
 
 
 def check_same_shape(one, other):
-    """Raises OtherShape unless two specifications have the same functions, in any order, and last place."""
-    if one.rules.last != other.rules.last or sorted(one.rules.functions) != sorted(other.rules.functions):
+    """Raises OtherShape unless two specifications have the same functions, in the same order, and last place."""
+    if one.rules.last != other.rules.last or one.rules.functions != other.rules.functions:
         raise OtherShape()
 
 

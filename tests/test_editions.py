@@ -22,10 +22,11 @@ EVERY = Places([(0, 9)])
 
 
 def some_two(chance, last=9, most=6):
-    """Two specifications of one shape, the functions in any order, with some clauses that both have."""
+    """Two specifications of one shape, with some clauses that both have."""
     functions = ["f", "g", "h"][:chance.randint(1, 3)]
+    functions = chance.sample(functions, len(functions))
     one = some_spec(chance, functions, last, most)
-    other = some_spec(chance, chance.sample(functions, len(functions)), last, chance.randint(0, most))
+    other = some_spec(chance, functions, last, chance.randint(0, most))
     for name, clause in one.entries:
         if chance.random() < 0.3:
             other[name] = clause
@@ -39,7 +40,7 @@ class OverAllPrograms(unittest.TestCase):
         for functions, last, top, many in ((["f"], 3, 2, 80), (["f", "g"], 1, 2, 80), (["g", "f"], 2, 1, 30), (["f", "g", "h"], 0, 3, 30)):
             for _ in range(many):
                 one = spec_of(oracle.bounded_rules(chance, functions, last, chance.randint(0, 4), top))
-                other = spec_of(oracle.some_rules(chance, functions[::-1], last, chance.randint(0, 3), most=2))
+                other = spec_of(oracle.some_rules(chance, functions, last, chance.randint(0, 3), most=2))
                 let = oracle.all_let(one.rules, top)
                 kept = [[clause.text() for clause in other.rules.told if broken(clause, outcomes)] for outcomes in let]
                 wanted = not any(kept)
@@ -122,12 +123,33 @@ class ByThePromises(unittest.TestCase):
     def test_other_shapes(self):
         one = Spec(["f", "g"], 9)
         one["a"] = Answers("f", EVERY)
-        for functions, last in ((["f"], 9), (["f", "g", "h"], 9), (["f", "h"], 9), (["f", "g"], 8), (["g", "f"], 10)):
+        for functions, last in ((["f"], 9), (["f", "g", "h"], 9), (["f", "h"], 9), (["f", "g"], 8), (["g", "f"], 10), (["g", "f"], 9)):
             for action in (within, parting):
                 self.assertRaises(OtherShape, action, one, Spec(functions, last))
                 self.assertRaises(OtherShape, action, Spec(functions, last), one)
-        self.assertTrue(within(one, Spec(["g", "f"], 9)))
-        self.assertEqual(parting(Spec(["g", "f"], 9), one)[:2], ("a", 0))
+        self.assertTrue(within(one, Spec(["f", "g"], 9)))
+        self.assertEqual(parting(Spec(["f", "g"], 9), one)[:2], ("a", 0))
+
+    def test_functions_in_another_order_are_another_shape(self):
+        chance = chance_of(308)
+        many = 0
+        for _ in range(150):
+            one, other = some_two(chance)
+            functions = one.rules.functions
+            order = chance.sample(functions, len(functions))
+            turned = Spec(order, 9)
+            for name, clause in other.entries:
+                turned[name] = clause
+            before = (look(one), look(turned))
+            for action in (within, parting):
+                if tuple(order) == functions:
+                    self.assertTrue(action(one, turned) == action(one, other))
+                    continue
+                many += 1
+                self.assertRaises(OtherShape, action, one, turned)
+                self.assertRaises(OtherShape, action, turned, one)
+            self.assertEqual((look(one), look(turned)), before)
+        self.assertGreater(many, 50)
 
     def test_written_out(self):
         one = Spec(["f"], FAR)

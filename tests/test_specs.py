@@ -1,6 +1,7 @@
 """Point 21: specifications, their entries, and actions that are taken back."""
 
 import unittest
+from itertools import permutations
 
 from openranges.clauses import Answers, Bound, Needs, Pair, Refuses, Spreads, Step
 from openranges.errors import (BadFactor, BadFunctions, BadName, BadWord, Impossible, Known, NoFunction, NoPlace, OtherShape, TooMany,
@@ -178,11 +179,13 @@ class Others(Checks):
 
     def test_joined(self):
         one = filled([("a", ANSWERS), ("b", BOUND)])
-        other = filled([("c", PAIR), ("b", Bound("g", Places([(2, 5)]), "<=", 2, 5)), ("d", ANSWERS)], ("g", "f"))
+        other = filled([("c", PAIR), ("b", Bound("g", Places([(2, 5)]), "<=", 2, 5)), ("d", ANSWERS)])
         self.is_like(one.joined(other), [("a", ANSWERS), ("b", BOUND), ("c", PAIR), ("d", ANSWERS)])
-        self.is_like(other.joined(one), [*other.entries, ("a", ANSWERS)], ("g", "f"))
+        self.is_like(other.joined(one), [*other.entries, ("a", ANSWERS)])
         self.is_like(one.joined(one), one.entries)
         self.is_like(one.joined(Spec(["f", "g"], 9)), one.entries)
+        turned = filled([("a", ANSWERS)], ("g", "f")).joined(filled([("b", BOUND)], ("g", "f")))
+        self.is_like(turned, [("a", ANSWERS), ("b", BOUND)], ("g", "f"))
         one.joined(other).drop("a")
         self.is_like(one, [("a", ANSWERS), ("b", BOUND)])
 
@@ -191,15 +194,29 @@ class Others(Checks):
         clash = [("a5", PAIR), ("a2", BOUND), ("a3", ANSWERS)]
         new = [(f"b{at}", ANSWERS) for at in range(5)]
         before = look(one)
-        for functions, last in ((("f",), 9), (("f", "h"), 9), (("f", "g", "h"), 9), (("f", "g"), 8), (("g", "f"), 10)):
+        for functions, last in ((("f",), 9), (("f", "h"), 9), (("f", "g", "h"), 9), (("f", "g"), 8), (("g", "f"), 10), (("g", "f"), 9)):
             entries = [(name, ANSWERS) for name in ("a5", "b", "c")] if last > 8 else []
             self.assertRaises(OtherShape, one.joined, filled(entries, functions, last))
+            self.assertRaises(OtherShape, filled(entries, functions, last).joined, one)
         self.refused(Known, "a5", lambda: one.joined(filled(new + clash)))
         self.refused(Known, "a2", lambda: one.joined(filled(new + clash[1:])))
         self.refused(TooMany, 13, lambda: one.joined(filled(new + clash[2:])))
         self.refused(TooMany, 20, lambda: one.joined(filled([(f"b{at}", ANSWERS) for at in range(12)])))
         self.assertEqual(len(one.joined(filled(new[:4] + clash[2:]))), 12)
         self.assertEqual(look(one), before)
+
+    def test_functions_in_another_order_cannot_be_joined(self):
+        known = [("a", ANSWERS)]
+        others_of_it = [("a", BOUND)]
+        full = [(f"b{at}", ANSWERS) for at in range(12)]
+        orders = list(permutations(("f", "g", "h")))
+        for functions, turned in permutations(orders, 2):
+            for entries, others in (([], []), (known, known), (known, []), (known, others_of_it), (known, full)):
+                one, other = filled(entries, functions), filled(others, turned)
+                before = (look(one), look(other))
+                self.assertRaises(OtherShape, one.joined, other)
+                self.assertRaises(OtherShape, other.joined, one)
+                self.assertEqual((look(one), look(other)), before)
 
     def test_turned(self):
         chance = chance_of(251)
