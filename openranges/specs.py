@@ -25,7 +25,7 @@ class Spec:
         check_fits(clause, self.rules.functions, self.rules.last)
         told = list(self.rules.told)
         if name in self._names:
-            told[self._names.index(name)] = clause
+            told[self._index_of(name)] = clause
             self._take(self._names, told)
         else:
             _check_count(len(told) + 1)
@@ -107,9 +107,11 @@ class Spec:
         return result
 
     def _index_of(self, name):
-        if name not in self._names:
-            raise Unknown(name)
-        return self._names.index(name)
+        # An operator runs this, and what it runs calls nothing that is held: some errors hold what is named index.
+        for at, known in enumerate(self._names):
+            if known == name:
+                return at
+        raise Unknown(name)
 
     def _take(self, names, told):
         """Has these entries in the place of the present ones."""

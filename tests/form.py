@@ -212,6 +212,69 @@ class Found:
                 self.say(self.tree, f"L17: {word}")
 
 
+class Run:
+    """What operators and properties run: by name, all functions and methods that a call in them may mean.
+
+    The findings are (file, row, what is wrong), the files told as a dict from name to text.
+    """
+
+    def __init__(self, texts):
+        trees = {name: ast.parse(text) for name, text in texts.items()}
+        self.methods, self.attributes = own_names(texts.values())
+        self.homes = {}
+        self.by_name = {}
+        self.seen = []
+        self.rows = []
+        for file, tree in trees.items():
+            for node in tree.body:
+                self.define(file, node)
+        for file, tree in trees.items():
+            for node in [each for each in tree.body if isinstance(each, ast.ImportFrom)]:
+                for alias in node.names:
+                    self.homes[file, alias.name] = self.homes.get((node.module.split(".")[-1], alias.name))
+        for file, tree in trees.items():
+            for node in [each for each in tree.body if isinstance(each, ast.ClassDef)]:
+                for method in [each for each in node.body if isinstance(each, ast.FunctionDef) and is_operator(each)]:
+                    self.follow(file, method)
+
+    def define(self, file, node):
+        """A function is found under its own name, a class under that of its __init__, a method under its name alone."""
+        if isinstance(node, ast.FunctionDef):
+            self.homes[file, node.name] = [(file, node)]
+        if isinstance(node, ast.ClassDef):
+            methods = [(file, each) for each in node.body if isinstance(each, ast.FunctionDef)]
+            self.homes[file, node.name] = [each for each in methods if each[1].name == "__init__"]
+            for each in methods:
+                self.by_name.setdefault(each[1].name, []).append(each)
+
+    def follow(self, file, function):
+        if function in self.seen:
+            return
+        self.seen.append(function)
+        for node in ast.walk(function):
+            if isinstance(node, ast.Attribute) and not isinstance(node.ctx, ast.Load) and function.name != "__init__":
+                self.rows.append((file, node.lineno, f"L5: {node.attr} is assigned in what an operator runs"))
+            for home in self.called(file, node) if isinstance(node, ast.Call) else []:
+                self.follow(*home)
+
+    def called(self, file, node):
+        """The functions and methods that a call may mean; a call of what may be a value that is held is a finding."""
+        if isinstance(node.func, ast.Name):
+            if (file, node.func.id) in self.homes or node.func.id in BUILTINS:
+                return self.homes.get((file, node.func.id)) or []
+        elif node.func.attr not in self.attributes:
+            return self.by_name.get(node.func.attr, [])
+        self.rows.append((file, node.lineno, f"L5: a call of {ast.unparse(node.func)} in what an operator runs"))
+        return []
+
+
+def is_operator(method):
+    """Whether nothing may be changed, and nothing held be called, in what this method runs."""
+    if any(isinstance(each, ast.Name) and each.id == "property" for each in method.decorator_list):
+        return True
+    return method.name.startswith("__") and method.name not in ("__init__", "__call__", "__iter__", "__setitem__")
+
+
 def own_names(texts):
     """The methods and functions, and the attributes, of all files of the package."""
     methods = set()

@@ -4,9 +4,25 @@ import ast
 import pathlib
 import unittest
 
-from tests.form import Found, defined_in, imports_of, own_names
+from tests.form import Found, Run, defined_in, imports_of, own_names
 
 PACKAGE = pathlib.Path(__file__).resolve().parent.parent / "openranges"
+# A class with an operator, whose row 6 is to be filled in, and a function that calls in row 14 what may be held.
+CLASS = """class Box:
+    def __init__(self, rows):
+        self._rows = rows
+
+    def __getitem__(self, at):
+        PASS
+
+    def _index_of(self, at):
+        return [place for place, row in enumerate(self._rows) if row == at][0]
+
+
+def _place_of(box, at):
+    # The name is that of an attribute, too.
+    return box._rows.index(at)
+"""
 
 
 class Form(unittest.TestCase):
@@ -30,6 +46,26 @@ class Form(unittest.TestCase):
         self.assertEqual(methods & attributes, set())
         for name, text in self.texts.items():
             self.assertEqual(Found(text, methods, attributes).all(), [], name)
+
+    def test_what_operators_run_calls_nothing_that_is_held(self):
+        run = Run(self.texts)
+        self.assertEqual(run.rows, [])
+        names = {function.name for function in run.seen}
+        self.assertTrue({"__getitem__", "_index_of", "names", "facts", "_how_many_upto", "lowest", "check_word"} <= names, names)
+
+    def test_what_operators_run_is_seen(self):
+        for told, wrong in (
+            ("return self._index_of(at)", []),
+            ("self.held = at", [6]),
+            ("return self._rows.index(at)", [6]),
+            ("return _place_of(self, at)", [14]),
+            ("return at(self)", [6]),
+            ("return self.index(at)", [6]),
+            ("return len(sorted(self._rows))", []),
+        ):
+            text = CLASS.replace("PASS", told)
+            run = Run({"errors": "class Bad:\n    def __init__(self, index):\n        self.index = index\n", "one": text})
+            self.assertEqual([row for file, row, _ in run.rows if file == "one"], wrong, told)
 
     def test_imports_name_the_file_that_defines_and_go_in_no_circle(self):
         below = {}

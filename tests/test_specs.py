@@ -150,6 +150,25 @@ class Entries(Checks):
                 self.refused(Unknown, value, lambda: spec.drop(value))
             self.assertEqual(look(spec), before)
 
+    def test_names_that_are_there_and_that_are_not(self):
+        full = [(f"a{at}", Bound("f", EVERY, "<=", 0, at)) for at in range(12)]
+        for many in (1, 2, 5, 12):
+            entries = full[:many]
+            for at, (name, clause) in enumerate(entries):
+                spec = filled(entries)
+                # A string that is equal, yet made anew, is the same name.
+                again = "".join(list(name))
+                self.assertTrue(spec[again] == clause)
+                self.is_like(spec.selected([again]), [entries[at]])
+                spec.drop(again)
+                rest = entries[:at] + entries[at + 1:]
+                self.is_like(spec, rest)
+                for value in (again, "a", "a12", "b", name + "x", "", None, 0, at, True):
+                    self.refused(Unknown, value, lambda: spec[value])
+                    self.refused(Unknown, value, lambda: spec.drop(value))
+                    self.refused(Unknown, value, lambda: spec.selected([*spec.names, value, "z"]))
+                self.is_like(spec, rest)
+
     def test_not_iterated_over(self):
         for spec in (filled([]), filled([("a", ANSWERS), ("b", BOUND)])):
             for action in (list, tuple, iter, sorted, lambda told: [each for each in told]):
